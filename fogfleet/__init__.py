@@ -1,0 +1,1 @@
+"""Fogfleet: ships at sea and what is surely known of them."""

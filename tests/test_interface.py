@@ -1,0 +1,55 @@
+"""The interface: its names, arguments, methods and files."""
+
+import importlib
+import inspect
+import unittest
+
+INTERFACE = {
+    "chart": {
+        "Chart": "(depths, lanes, *, tide=(0,), harbours=())",
+    },
+    "ways": {
+        "count_lanes": "(chart, start, goal, draught=0, hour=0)",
+        "shortest_way": "(chart, start, goal, draught=0, hour=0)",
+        "widest_way": "(chart, start, goal)",
+        "arrivals": "(chart, start, draught=0, hour=0, last=24)",
+    },
+    "charttext": {
+        "format_chart": "(chart)",
+        "parse_chart": "(text)",
+    },
+    "ships": {
+        "Ship": "(draught, *, slow=0, fast=1, tank=8, fuel=None)",
+        "step_lanes": "(chart, ship, hour, start, goal)",
+        "moves": "(chart, ship, hour, start)",
+    },
+}
+METHODS = {
+    ("chart", "Chart"): {
+        "water": "(self, place, hour)",
+        "low_water": "(self, place)",
+        "neighbours": "(self, place)",
+        "is_harbour": "(self, place)",
+    },
+}
+
+
+class InterfaceTest(unittest.TestCase):
+    def test_each_name_stands_in_its_file_with_its_arguments(self):
+        for file, names in INTERFACE.items():
+            module = importlib.import_module(f"fogfleet.{file}")
+            for name, arguments in names.items():
+                thing = getattr(module, name)
+                self.assertEqual(thing.__module__, module.__name__, name)
+                self.assertEqual(str(inspect.signature(thing)), arguments, name)
+
+    def test_each_method_stands_in_its_class(self):
+        for (file, name), methods in METHODS.items():
+            owner = getattr(importlib.import_module(f"fogfleet.{file}"), name)
+            for method, arguments in methods.items():
+                self.assertIn(method, vars(owner))
+                self.assertEqual(str(inspect.signature(vars(owner)[method])), arguments, method)
+
+
+if __name__ == "__main__":
+    unittest.main()
