@@ -43,8 +43,7 @@ class SpeedTest(unittest.TestCase):
         self.quick(lambda: format_chart(parse_chart(text)))
         for wrong in (text + "\nlane 0 " + "9" * 100000, text + "\nlane" + " 0" * 50000,
                       "depths " + "9" * 100000, "\n" * 100000):
-            with self.assertRaises(BadText):
-                self.quick(lambda: parse_chart(wrong))
+            self.quick(lambda: self.assertRaises(BadText, parse_chart, wrong))
 
     def test_steps(self):
         for chart in self.charts():
