@@ -4,6 +4,7 @@ import itertools
 import random
 
 from fogfleet.chart import Chart
+from fogfleet.ships import Ship
 
 
 def small_chart():
@@ -15,14 +16,15 @@ def all_pairs(size):
     return list(itertools.combinations(range(size), 2))
 
 
-def line_chart(size=12, depth=5, tide=(0,)):
+def line_chart(size=12, depth=5, tide=(0,), harbours=()):
     """Places in a row, each joined to the next one."""
-    return Chart([depth] * size, [(k, k + 1) for k in range(size - 1)], tide=tide)
+    lanes = [(k, k + 1) for k in range(size - 1)]
+    return Chart([depth] * size, lanes, tide=tide, harbours=harbours)
 
 
-def full_chart(size=12, depth=5, tide=(0,)):
+def full_chart(size=12, depth=5, tide=(0,), harbours=()):
     """Each place is joined to each other one."""
-    return Chart([depth] * size, all_pairs(size), tide=tide)
+    return Chart([depth] * size, all_pairs(size), tide=tide, harbours=harbours)
 
 
 def random_chart(seed, most=6, deepest=9):
@@ -56,6 +58,75 @@ def ways_of(chart, start, goal, lanes, draught, hour):
     deep = [place for place in range(chart.size) if water(chart, place, hour) >= draught]
     ways = [list(way) for way in itertools.product(deep, repeat=lanes + 1)]
     return [way for way in ways if way[0] == start and way[-1] == goal and is_way(chart, way)]
+
+
+def walks(chart, ship, hour):
+    """A dict from (start, goal) to the least lanes of a step, found by walking lane by lane."""
+    deep = [water(chart, place, hour) >= ship.draught for place in range(chart.size)]
+    ends = {(place, place) for place in range(chart.size)}
+    least = {}
+    for lanes in range(ship.fast + 1):
+        if lanes >= ship.slow:
+            for pair in ends:
+                least.setdefault(pair, lanes)
+        ends = {(start, goal) for start, place in ends for goal in range(chart.size)
+                if deep[place] and deep[goal] and joined(chart, place, goal)}
+    return least
+
+
+def fuel_walked(chart, ship, places, steps, hour, fuel):
+    """The fuel after going through the places from the hour on, or None."""
+    for start, goal in zip(places, places[1:]):
+        lanes = steps[hour].get((start, goal))
+        if lanes is None or lanes > fuel:
+            return None
+        fuel = ship.tank if goal in chart.harbours else fuel - lanes
+        hour += 1
+    return fuel
+
+
+def fuel_at_start(chart, ship, place):
+    return ship.tank if place in chart.harbours else ship.fuel
+
+
+def fitting(chart, ship, corridor):
+    """All fitting drivings as tuples in ascending order, found by trying all lists."""
+    steps = [walks(chart, ship, hour) for hour in range(len(corridor) - 1)]
+    return [places for places in itertools.product(*map(sorted, corridor))
+            if fuel_walked(chart, ship, places, steps, 0,
+                           fuel_at_start(chart, ship, places[0])) is not None]
+
+
+def beginnings_of(drivings):
+    """All beginnings of the drivings, as tuples."""
+    return {driving[:many] for driving in drivings for many in range(len(driving) + 1)}
+
+
+def random_zone(dice, size, share=0.7):
+    """A zone in any order, as a list or a tuple."""
+    zone = [place for place in range(size) if dice.random() < share]
+    dice.shuffle(zone)
+    return dice.choice([list, tuple])(zone)
+
+
+def random_ship(dice):
+    slow, fast = sorted([dice.choice([0, 0, 0, 1, 1, 2, 3]), dice.randint(0, 3)])
+    tank = dice.choice([0, 1, 2, 3, 4, 8])
+    return Ship(dice.randint(0, 9), slow=slow, fast=fast, tank=tank, fuel=dice.randint(0, tank))
+
+
+def random_case(seed):
+    """A small chart, a ship and a corridor, which are the same for the same seed."""
+    dice = random.Random(seed)
+    chart = random_chart(seed, most=4)
+    share = dice.choice([0.5, 0.8, 0.9, 1])
+    corridor = [random_zone(dice, chart.size, share) for _ in range(dice.randint(1, 5))]
+    return chart, random_ship(dice), corridor
+
+
+def all_places(chart, hours):
+    """The corridor that allows each place at each hour."""
+    return [list(range(chart.size)) for _ in range(hours)]
 
 
 def simple_ways(chart, start, goal, way=()):

@@ -23,6 +23,36 @@ INTERFACE = {
         "step_lanes": "(chart, ship, hour, start, goal)",
         "moves": "(chart, ship, hour, start)",
     },
+    "drivings": {
+        "fuel_along": "(chart, ship, driving)",
+        "fits": "(chart, ship, corridor, driving)",
+    },
+    "tables": {
+        "rich_table": "(chart, ship, corridor)",
+        "need_table": "(chart, ship, corridor)",
+        "possible_places": "(chart, ship, corridor)",
+    },
+    "reach": {
+        "next_places": "(chart, ship, corridor, places)",
+        "first_driving": "(chart, ship, corridor)",
+        "reach_hours": "(chart, ship, corridor, zone)",
+    },
+    "numbering": {
+        "count_drivings": "(chart, ship, corridor)",
+        "driving_at": "(chart, ship, corridor, number)",
+        "number_of": "(chart, ship, corridor, driving)",
+    },
+    "lights": {
+        "Light": "(place, pattern, *, reach=1)",
+        "flashes": "(light, hour, count)",
+        "sight_zone": "(chart, light)",
+    },
+    "telling": {
+        "agreeing_shifts": "(a, b, count)",
+        "telling_length": "(a, b)",
+        "readings": "(lights, word)",
+        "certain_light": "(lights, word)",
+    },
 }
 METHODS = {
     ("chart", "Chart"): {
