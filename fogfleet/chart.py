@@ -1,6 +1,7 @@
 """The chart: places with their depths, lanes between them, the tide, harbours."""
 
 from fogfleet.errors import InvalidChart
+from fogfleet.zones import right_zone
 
 LONGEST_ROW = 12
 GREATEST_DEPTH = 99
@@ -27,13 +28,6 @@ def right_lanes(lanes, size):
     return len(set(pairs)) == len(pairs)
 
 
-def right_harbours(harbours, size):
-    """Tell whether the harbours are different places below size."""
-    if not all([0 <= place < size for place in harbours]):
-        return False
-    return len(set(harbours)) == len(harbours)
-
-
 def wrong_part_of_chart(depths, lanes, tide, harbours):
     """Return the name of the first part of a chart that is wrong, or None."""
     if not right_row(depths, GREATEST_DEPTH):
@@ -42,7 +36,7 @@ def wrong_part_of_chart(depths, lanes, tide, harbours):
         return "lanes"
     if not right_row(tide, GREATEST_TIDE):
         return "tide"
-    if not right_harbours(harbours, len(depths)):
+    if not right_zone(harbours, len(depths)):
         return "harbours"
     return None
 

@@ -26,13 +26,17 @@ def next_rich_row(chart, ship, zone, steps, row):
     return found
 
 
-def rich_table(chart, ship, corridor):
-    """Return the greatest fuel that the ship can have at each hour and place, or None."""
-    steps = step_table(chart, ship, len(corridor) - 1)
+def rich_rows(chart, ship, corridor, steps):
+    """Return the rich table of the corridor; `steps` is the step table for its hours."""
     table = [first_rich_row(chart, ship, corridor[0])]
     for hour, zone in enumerate(corridor[1:]):
         table.append(next_rich_row(chart, ship, zone, steps[hour], table[-1]))
     return table
+
+
+def rich_table(chart, ship, corridor):
+    """Return the greatest fuel that the ship can have at each hour and place, or None."""
+    return rich_rows(chart, ship, corridor, step_table(chart, ship, len(corridor) - 1))
 
 
 def last_need_row(chart, zone):

@@ -4,7 +4,11 @@ import itertools
 import random
 
 from fogfleet.chart import Chart
+from fogfleet.letters import Letter
+from fogfleet.reports import Report
 from fogfleet.ships import Ship
+
+HUGE = 10 ** 39 + 7
 
 
 def small_chart():
@@ -127,6 +131,69 @@ def random_case(seed):
 def all_places(chart, hours):
     """The corridor that allows each place at each hour."""
     return [list(range(chart.size)) for _ in range(hours)]
+
+
+def plain_sight(chart, light):
+    """The zone of sight, found by going lane by lane."""
+    seen = {light.place}
+    for _ in range(light.reach):
+        seen |= {place for place in range(chart.size)
+                 if any(joined(chart, place, other) for other in seen)}
+    return sorted(seen)
+
+
+def random_report(dice, size, ship=0, last=4):
+    zone = random_zone(dice, size, dice.choice([0.3, 0.5, 0.8]))
+    return Report(ship, dice.randint(0, last), zone, weight=dice.choice([1, 1, 2, 3, 99]),
+                  inside=dice.random() < 0.6)
+
+
+def zones_of(size):
+    """All zones of a chart of this size, each in descending order."""
+    places = range(size)[::-1]
+    return [zone for many in range(size + 1) for zone in itertools.combinations(places, many)]
+
+
+def split_drivings(drivings, hour, zone):
+    """The drivings for a question and those against it."""
+    return ([driving for driving in drivings if driving[hour] in zone],
+            [driving for driving in drivings if driving[hour] not in zone])
+
+
+def random_letter(dice, agents, size=4, hour=3, most=3, longest=2):
+    """A letter with some hops to the agents, each of which takes only few hours."""
+    hops = []
+    for event in range(1, dice.randint(0, most) + 1):
+        low = dice.randint(0, 1)
+        hops.append((dice.randrange(event), dice.choice(agents), low, dice.randint(low, longest)))
+    writer = dice.choice([agent for agent in agents if agent[0] == "k"])
+    return Letter(dice.randint(0, hour), random_zone(dice, size, 0.4), writer, hops)
+
+
+def rows_of(letter):
+    """All lists of hours that the events of the letter can have."""
+    rows = []
+    for lasts in itertools.product(*[range(low, high + 1) for _, _, low, high in letter.hops]):
+        hours = [letter.hour]
+        for (parent, _, _, _), last in zip(letter.hops, lasts):
+            hours.append(hours[parent] + last)
+        rows.append(hours)
+    return rows
+
+
+def runs_of(post):
+    """All runs of a post, found by trying each length of each hop."""
+    return [list(rows) for rows in itertools.product(*map(rows_of, post))]
+
+
+def slow_seen(post, run, agent, hour):
+    found = []
+    for number, letter in enumerate(post):
+        for event, coming in enumerate(run[number]):
+            at = letter.writer if event == 0 else letter.hops[event - 1][1]
+            if at == agent and coming <= hour:
+                found.append((number, event, coming))
+    return found
 
 
 def simple_ways(chart, start, goal, way=()):

@@ -53,6 +53,35 @@ INTERFACE = {
         "readings": "(lights, word)",
         "certain_light": "(lights, word)",
     },
+    "reports": {
+        "Report": "(ship, hour, zone, *, weight=1, inside=True)",
+        "corridor_of": "(chart, horizon, reports, ship)",
+        "unmet": "(reports, ship, driving)",
+    },
+    "sightings": {
+        "lights_seen": "(lights, hour, word)",
+        "flash_zone": "(chart, lights, hour, word)",
+        "flash_reports": "(chart, lights, ship, hour, word, weight=1)",
+    },
+    "questions": {
+        "verdict": "(chart, ship, corridor, hour, zone)",
+        "settling": "(chart, ship, corridor, hour, zone, after=0)",
+    },
+    "disbelief": {
+        "strength": "(chart, ship, horizon, reports, number, hour, zone)",
+        "reason": "(chart, ship, horizon, reports, number, hour, zone)",
+    },
+    "letters": {
+        "Letter": "(hour, zone, writer, hops)",
+    },
+    "runs": {
+        "is_run": "(post, run)",
+        "earliest_run": "(post)",
+        "latest_run": "(post)",
+        "seen": "(post, run, agent, hour)",
+        "held": "(post, run, agent, hour)",
+        "alike_runs": "(post, first, second, agent, hour)",
+    },
 }
 METHODS = {
     ("chart", "Chart"): {
@@ -60,6 +89,12 @@ METHODS = {
         "low_water": "(self, place)",
         "neighbours": "(self, place)",
         "is_harbour": "(self, place)",
+    },
+    ("reports", "Report"): {
+        "allows": "(self, place)",
+    },
+    ("letters", "Letter"): {
+        "agent_of": "(self, event)",
     },
 }
 

@@ -5,9 +5,7 @@ import unittest
 from fogfleet.chart import Chart
 from fogfleet.errors import FleetError, InvalidLight
 from fogfleet.lights import Light, flashes, sight_zone
-from tests.helpers import full_chart, joined, line_chart, random_chart
-
-HUGE = 10 ** 39 + 7
+from tests.helpers import HUGE, full_chart, joined, line_chart, plain_sight, random_chart
 
 
 class LightTest(unittest.TestCase):
@@ -86,15 +84,6 @@ class FlashesTest(unittest.TestCase):
                 start = hour % length
                 self.assertEqual(flashes(Light(3, pattern), hour, 60),
                                  (pattern * 90)[start:start + 60])
-
-
-def plain_sight(chart, light):
-    """The zone of sight, found by going lane by lane."""
-    seen = {light.place}
-    for _ in range(light.reach):
-        seen |= {place for place in range(chart.size)
-                 if any(joined(chart, place, other) for other in seen)}
-    return sorted(seen)
 
 
 class SightZoneTest(unittest.TestCase):

@@ -1,84 +1,60 @@
-"""Points 4 and 5: what callers pass and get stays apart from what the program keeps.
-
-The same is tried for all calls of drivings, tables, reach, numbering, lights and telling.
-"""
+"""Points 4 and 5: what callers pass and get stays apart from what the program keeps."""
 
 import copy
+import inspect
 import unittest
 
 from fogfleet import errors
 from fogfleet.chart import Chart
+from fogfleet.disbelief import strength
 from fogfleet.drivings import fits, fuel_along
-from fogfleet.errors import DoesNotFit, FleetError, InvalidLight, NoDriving, NoSuchNumber
-from fogfleet.lights import Light, flashes, sight_zone
-from fogfleet.numbering import count_drivings, driving_at, number_of
-from fogfleet.reach import first_driving, next_places, reach_hours
+from fogfleet.errors import FleetError
+from fogfleet.letters import Letter
+from fogfleet.lights import Light
+from fogfleet.numbering import count_drivings
+from fogfleet.reports import Report, corridor_of, unmet
+from fogfleet.runs import earliest_run, held, latest_run
 from fogfleet.ships import Ship
+from fogfleet.sightings import flash_reports
 from fogfleet.tables import need_table, possible_places, rich_table
-from fogfleet.telling import agreeing_shifts, certain_light, readings, telling_length
-from tests.helpers import all_places, full_chart, lists_in, spoil
+from fogfleet.telling import certain_light, readings
+from tests.calls import CALLS, CHART, CORRIDOR, DRIVING, LIGHT, OTHER, POST, REFUSALS, REPORTS, RUN, SHIP
+from tests.helpers import all_places, full_chart, line_chart, lists_in, spoil
+from tests.test_interface import INTERFACE
 
-CHART = Chart([5, 3, 8, 5], [(1, 0), (1, 2), (2, 3)], tide=(0, 2), harbours=(2, 0))
-SHIP = Ship(4, fast=2, tank=3, fuel=2)
-CORRIDOR = [[3, 0], [0, 1, 3], (3, 1, 0, 2), [2, 1]]
-DRIVING = [0, 0, 1, 1]
-LIGHT = Light(1, "*..", reach=2)
-OTHER = Light(2, "*.")
-
-# Each call with what is passed to it.
-CALLS = [
-    (fuel_along, [CHART, SHIP, DRIVING]),
-    (fits, [CHART, SHIP, CORRIDOR, DRIVING]),
-    (rich_table, [CHART, SHIP, CORRIDOR]),
-    (need_table, [CHART, SHIP, CORRIDOR]),
-    (possible_places, [CHART, SHIP, CORRIDOR]),
-    (next_places, [CHART, SHIP, CORRIDOR, [0, 0]]),
-    (next_places, [CHART, SHIP, CORRIDOR, []]),
-    (first_driving, [CHART, SHIP, CORRIDOR]),
-    (reach_hours, [CHART, SHIP, CORRIDOR, [1, 0]]),
-    (count_drivings, [CHART, SHIP, CORRIDOR]),
-    (driving_at, [CHART, SHIP, CORRIDOR, 1]),
-    (number_of, [CHART, SHIP, CORRIDOR, DRIVING]),
-    (flashes, [LIGHT, 5, 7]),
-    (sight_zone, [CHART, LIGHT]),
-    (agreeing_shifts, [LIGHT, OTHER, 3]),
-    (telling_length, [LIGHT, OTHER]),
-    (readings, [[LIGHT, OTHER, LIGHT], "*."]),
-    (certain_light, [[LIGHT, OTHER], "*.*"]),
-]
-
-# Each call that is refused, with its error.
-REFUSALS = [
-    (NoDriving, reach_hours, [CHART, SHIP, [[3], [0]], [1]]),
-    (NoSuchNumber, driving_at, [CHART, SHIP, CORRIDOR, 10 ** 6]),
-    (DoesNotFit, number_of, [CHART, SHIP, CORRIDOR, [0, 0, 1]]),
-    (InvalidLight, Light, [12, "*"]),
-]
+OBJECTS = (Chart, Ship, Light, Report, Letter)
 
 
 def copied(arguments):
     """The arguments with new lists, but with the same objects."""
     found = []
     for value in arguments:
-        if isinstance(value, (Chart, Ship, Light)):
-            found.append(value)
+        if isinstance(value, (list, tuple)):
+            found.append(type(value)(copied(value)))
         else:
-            found.append([copied([item])[0] for item in value] if isinstance(value, list) else value)
+            found.append(value)
     return found
 
 
 def told(value):
     """All that can be read off a value, without sharing a list with it."""
-    if isinstance(value, (Chart, Ship, Light)):
-        return copy.deepcopy(vars(value))
+    if isinstance(value, OBJECTS):
+        return copy.deepcopy({name: told(part) for name, part in vars(value).items()})
     if isinstance(value, (list, tuple)):
         return (isinstance(value, list), [told(item) for item in value])
     return value
 
 
 class OwnListsTest(unittest.TestCase):
+    def test_each_function_of_the_interface_is_tried(self):
+        tried = {(function.__module__, function.__name__) for function, _, _ in CALLS}
+        for file in list(INTERFACE)[list(INTERFACE).index("drivings"):]:
+            for name in INTERFACE[file]:
+                if name != "Light":
+                    self.assertIn((f"fogfleet.{file}", name), tried)
+
     def test_no_function_changes_its_arguments(self):
-        for function, arguments in CALLS:
+        for function, arguments, _ in CALLS:
             passed = copied(arguments)
             before = told(passed)
             function(*passed)
@@ -92,28 +68,28 @@ class OwnListsTest(unittest.TestCase):
             self.assertEqual(told(passed), before, function)
 
     def test_a_caller_may_change_what_was_returned(self):
-        for function, arguments in CALLS:
+        for function, arguments, _ in CALLS:
             answer = function(*copied(arguments))
-            before = copy.deepcopy(answer)
+            before = told(answer)
             spoil(answer)
-            self.assertEqual(function(*copied(arguments)), before, function)
+            self.assertEqual(told(function(*copied(arguments))), before, function)
 
     def test_an_answer_shares_no_list_with_what_was_passed(self):
-        for function, arguments in CALLS:
+        for function, arguments, _ in CALLS:
             passed = copied(arguments)
             answer = function(*passed)
             given = {id(found) for found in lists_in(passed)}
             self.assertFalse([found for found in lists_in(answer) if id(found) in given], function)
 
     def test_a_caller_may_change_what_it_passed(self):
-        for function, arguments in CALLS:
+        for function, arguments, _ in CALLS:
             passed = copied(arguments)
             answer = function(*passed)
-            before = copy.deepcopy(answer)
+            before = told(answer)
             for found in lists_in(passed):
                 found.clear()
-            self.assertEqual(answer, before, function)
-            self.assertEqual(function(*copied(arguments)), before, function)
+            self.assertEqual(told(answer), before, function)
+            self.assertEqual(told(function(*copied(arguments))), before, function)
 
     def test_a_changed_list_is_looked_at_again(self):
         corridor, driving = copied([CORRIDOR, DRIVING])
@@ -132,8 +108,21 @@ class OwnListsTest(unittest.TestCase):
         lights.append(OTHER)
         self.assertIsNone(certain_light(lights, "*."))
 
+    def test_changed_lists_of_reports_and_letters_are_looked_at_again(self):
+        reports = list(REPORTS)
+        reports[0] = Report(0, 0, [])
+        self.assertEqual(corridor_of(CHART, 4, reports, 0)[0], [])
+        self.assertEqual(unmet(reports, 0, DRIVING), [0, 2, 4])
+        self.assertEqual(unmet(REPORTS, 0, DRIVING), [2, 4])
+        post, run = list(POST), copied([RUN])[0]
+        del post[1:], run[1:]
+        self.assertEqual(earliest_run(post), [[2, 3, 3]])
+        self.assertEqual(held(post, run, "k0", 5), [0])
+        run[0][2] = 6
+        self.assertEqual(held(post, run, "k0", 5), [])
+
     def test_no_list_occurs_twice_within_an_answer(self):
-        for function, arguments in CALLS:
+        for function, arguments, _ in CALLS:
             self.check_different_lists(function(*copied(arguments)))
 
     def test_equal_rows_and_zones_are_different_lists(self):
@@ -146,28 +135,44 @@ class OwnListsTest(unittest.TestCase):
                 self.check_different_lists(answer)
                 self.assertFalse([row for row in answer if row is zone])
 
+    def test_equal_zones_floors_and_runs_are_different_lists(self):
+        chart = full_chart(harbours=range(12))
+        for reports in ([], [Report(0, hour, []) for hour in range(25)]):
+            self.check_different_lists(corridor_of(chart, 24, reports, 0))
+            for zone in ([], list(range(11))):
+                self.check_different_lists(strength(chart, Ship(0), 24, reports, 0, 24, zone))
+        chart = line_chart(2)
+        floors = strength(chart, Ship(0, fast=0, tank=0), 2, [], 0, 0, [])[3]
+        self.assertEqual(floors, [[[0], [0]]] * 3)
+        self.check_different_lists(floors)
+        letter = Letter(3, [], "k0", [(0, "s0", 1, 1)])
+        for function in (earliest_run, latest_run):
+            answer = function([letter] * 6)
+            self.assertEqual(answer, [[3, 4]] * 6)
+            self.check_different_lists(answer)
+
     def check_different_lists(self, answer):
         found = lists_in(answer)
         self.assertEqual(len({id(row) for row in found}), len(found))
 
     def test_answers_are_of_the_kinds_that_the_document_names(self):
-        kinds = {fuel_along: list, fits: bool, rich_table: list, need_table: list,
-                 possible_places: list, next_places: list, first_driving: list,
-                 reach_hours: tuple, count_drivings: int, driving_at: list, number_of: int,
-                 flashes: str, sight_zone: list, agreeing_shifts: tuple, telling_length: int,
-                 readings: list, certain_light: int}
-        for function, arguments in CALLS:
-            self.assertIs(type(function(*copied(arguments))), kinds[function], function)
+        for function, arguments, kind in CALLS:
+            self.assertIs(type(function(*copied(arguments))), kind, function)
         for function in (rich_table, need_table, possible_places):
             for row in function(CHART, SHIP, copied([CORRIDOR])[0]):
                 self.assertIs(type(row), list)
         for row in readings([LIGHT], "*"):
             self.assertIs(type(row), tuple)
+        for report in flash_reports(CHART, [LIGHT], 0, 0, "*."):
+            self.assertIs(type(report), Report)
+        cost, indexes, driving, floors = strength(CHART, SHIP, 3, REPORTS, 0, 1, [2, 1])
+        self.assertEqual([type(part) for part in (cost, indexes, driving, floors)],
+                         [int, list, list, list])
 
 
 class ErrorsTest(unittest.TestCase):
     def test_each_error_is_a_fleet_error_and_of_no_other_class(self):
-        classes = [kind for kind in vars(errors).values() if isinstance(kind, type)]
+        classes = [kind for kind in vars(errors).values() if inspect.isclass(kind)]
         for kind, function, arguments in REFUSALS:
             with self.assertRaises(ValueError) as caught:
                 function(*copied(arguments))

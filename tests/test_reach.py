@@ -8,15 +8,9 @@ from fogfleet.errors import NoDriving
 from fogfleet.reach import first_driving, next_places, reach_hours
 from fogfleet.ships import Ship
 from tests.helpers import (all_places, beginnings_of, fitting, full_chart, line_chart,
-                           random_case, small_chart)
+                           random_case, small_chart, zones_of)
 
 CASES = 200
-
-
-def zones_of(size):
-    """All zones of a chart of this size, each in descending order."""
-    places = range(size)[::-1]
-    return [zone for many in range(size + 1) for zone in itertools.combinations(places, many)]
 
 
 class NextPlacesTest(unittest.TestCase):

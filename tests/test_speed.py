@@ -6,17 +6,22 @@ import unittest
 from fogfleet.chart import Chart
 from fogfleet.charttext import format_chart, parse_chart
 from fogfleet.drivings import fits, fuel_along
+from fogfleet.disbelief import reason, strength
 from fogfleet.errors import BadText, DoesNotFit, NoSuchNumber
+from fogfleet.letters import Letter
 from fogfleet.lights import Light, flashes, sight_zone
 from fogfleet.numbering import count_drivings, driving_at, number_of
+from fogfleet.questions import settling, verdict
 from fogfleet.reach import first_driving, next_places, reach_hours
+from fogfleet.reports import Report, corridor_of, unmet
+from fogfleet.runs import alike_runs, earliest_run, held, is_run, latest_run, seen
 from fogfleet.ships import Ship, moves, step_lanes
+from fogfleet.sightings import flash_reports, flash_zone, lights_seen
 from fogfleet.tables import need_table, possible_places, rich_table
 from fogfleet.telling import agreeing_shifts, certain_light, readings, telling_length
 from fogfleet.ways import arrivals, count_lanes, shortest_way, widest_way
-from tests.helpers import all_pairs, all_places, full_chart, line_chart
+from tests.helpers import HUGE, all_pairs, all_places, full_chart, line_chart
 
-HUGE = 10 ** 39 + 7
 LIMIT = 0.5
 TIDE = (20, 0, 19, 1, 18, 2, 17, 3, 16, 4, 15, 5)
 
@@ -113,6 +118,52 @@ class SpeedTest(unittest.TestCase):
         for word in ("", "*" * 60, flashes(light, 0, 60)):
             self.quick(lambda: readings(lights, word))
             self.quick(lambda: certain_light(lights, word))
+
+    def test_sightings(self):
+        lights = [Light(place, "*" * 11 + ".", reach=3) for place in range(8)]
+        for chart in self.charts():
+            for word in ("", "." * 60, flashes(lights[0], HUGE, 60)):
+                self.quick(lambda: lights_seen(lights, HUGE, word))
+                self.quick(lambda: flash_zone(chart, lights, HUGE, word))
+            self.quick(lambda: flash_reports(chart, lights, 3, 0, flashes(lights[0], 0, 25), 99))
+
+    def reports(self):
+        """Reports about ship 3 that leave it some places at each hour."""
+        return [Report(3, k % 25, [k % 12, (k + 5) % 12, (k + 7) % 12], weight=99, inside=False)
+                for k in range(40)]
+
+    def test_reports(self):
+        reports = self.reports()
+        self.quick(lambda: Report(3, 24, list(range(12)), weight=99))
+        for chart in self.charts():
+            self.quick(lambda: corridor_of(chart, 24, reports, 3))
+        self.quick(lambda: unmet(reports, 3, [11] * 25))
+
+    def test_questions(self):
+        for chart, ship, corridor in self.cases():
+            if first_driving(chart, ship, corridor) is not None:
+                for zone in ([0], [0, 2, 4, 6, 8, 10], list(range(12))):
+                    self.quick(lambda: verdict(chart, ship, corridor, 12, zone))
+                    self.quick(lambda: settling(chart, ship, corridor, 12, zone))
+
+    def test_disbelief(self):
+        for chart, ship, corridor in self.cases():
+            for reports in (self.reports(), [Report(3, 24, list(range(12)))] * 40):
+                for hour, zone in ((0, []), (12, [0, 2]), (24, list(range(11)))):
+                    self.quick(lambda: strength(chart, ship, 24, reports, 3, hour, zone))
+                    self.quick(lambda: reason(chart, ship, 24, reports, 3, hour, zone))
+            reports = self.reports() + [Report(3, 12, [])]
+            self.quick(lambda: reason(chart, ship, 24, reports[1:], 3, 12, [0]))
+
+    def test_runs(self):
+        hops = [(event, "s3", 0, 6) for event in range(6)]
+        self.quick(lambda: Letter(24, list(range(12)), "k9", hops))
+        post = [Letter(24, list(range(12)), "k9", hops)] * 6
+        self.quick(lambda: [earliest_run(post), latest_run(post)])
+        run = latest_run(post)
+        self.quick(lambda: self.assertTrue(is_run(post, run)))
+        self.quick(lambda: [seen(post, run, "s3", 96), held(post, run, "s3", 96)])
+        self.quick(lambda: alike_runs(post, run, earliest_run(post), "s3", 96))
 
 
 if __name__ == "__main__":
