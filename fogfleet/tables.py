@@ -58,13 +58,17 @@ def need_row_before(chart, ship, zone, steps, row):
     return found
 
 
-def need_table(chart, ship, corridor):
-    """Return the least fuel that the ship needs at each hour and place, or None."""
-    steps = step_table(chart, ship, len(corridor) - 1)
+def need_rows(chart, ship, corridor, steps):
+    """Return the need table of the corridor; `steps` is the step table for its hours."""
     table = [last_need_row(chart, corridor[-1])]
     for hour in reversed(range(len(corridor) - 1)):
         table.append(need_row_before(chart, ship, corridor[hour], steps[hour], table[-1]))
     return table[::-1]
+
+
+def need_table(chart, ship, corridor):
+    """Return the least fuel that the ship needs at each hour and place, or None."""
+    return need_rows(chart, ship, corridor, step_table(chart, ship, len(corridor) - 1))
 
 
 def suffices(fuel, need):

@@ -1,9 +1,16 @@
 """Calls of the functions of the interface, for the tests of what all of them promise."""
 
+from fogfleet.bounds import (binding, earliest_alike, earliest_fit, latest_alike, latest_fit,
+                             most_between)
+from fogfleet.chains import (earliest_chain, first_hour, knows_by, knows_from, knows_held,
+                             latest_chain)
 from fogfleet.chart import Chart
+from fogfleet.common import common_run, commonly_by
 from fogfleet.disbelief import reason, strength
 from fogfleet.drivings import fits, fuel_along
-from fogfleet.errors import DoesNotFit, InvalidLetter, InvalidLight, InvalidReport, NoDriving, NoSuchNumber
+from fogfleet.errors import (DoesNotFit, InvalidLetter, InvalidLight, InvalidReport, InvalidSetting,
+                             NoDriving, NoRun, NoSuchNumber, NoWorld)
+from fogfleet.knowing import count_ends, counter, ends, first_knowing, knows, sure
 from fogfleet.letters import Letter
 from fogfleet.lights import Light, flashes, sight_zone
 from fogfleet.numbering import count_drivings, driving_at, number_of
@@ -11,10 +18,12 @@ from fogfleet.questions import settling, verdict
 from fogfleet.reach import first_driving, next_places, reach_hours
 from fogfleet.reports import Report, corridor_of, unmet
 from fogfleet.runs import alike_runs, earliest_run, held, is_run, latest_run, seen
+from fogfleet.setting import Setting
 from fogfleet.ships import Ship
 from fogfleet.sightings import flash_reports, flash_zone, lights_seen
 from fogfleet.tables import need_table, possible_places, rich_table
 from fogfleet.telling import agreeing_shifts, certain_light, readings, telling_length
+from fogfleet.worlds import alike, answers, fits_view, is_true, is_world, view_of
 
 CHART = Chart([5, 3, 8, 5], [(1, 0), (1, 2), (2, 3)], tide=(0, 2), harbours=(2, 0))
 SHIP = Ship(4, fast=2, tank=3, fuel=2)
@@ -27,6 +36,11 @@ REPORTS = [Report(0, 1, [3, 0]), Report(1, 0, []), Report(0, 1, [3, 2, 1], weigh
 LETTER = Letter(2, [1, 0], "k1", [(0, "s0", 1, 3), (1, "k0", 0, 2)])
 POST = [LETTER, Letter(0, [], "k0", [(0, "s0", 0, 6)]), LETTER]
 RUN = [[2, 4, 5], [0, 4], [2, 4, 5]]
+CHAIN = [("k0", 5), ("s0", 4), ("k0", 5)]
+SETTING = Setting(CHART, 3, [SHIP, SHIP], reports=[Report(0, 0, [3, 0])], letters=POST)
+WORLD = ([[0, 0, 1, 1], [2, 2, 2, 2]], RUN)
+VIEW = ("k0", 4, ((1, 0, 0),), ((1, (False, False)),), None)
+OWN_VIEW = ("s0", 1, (), (), (0, 0))
 
 # Each call with what is passed to it, and the kind of its answer.
 CALLS = [
@@ -66,6 +80,38 @@ CALLS = [
     (seen, [POST, RUN, "k0", 5], list),
     (held, [POST, RUN, "k0", 5], list),
     (alike_runs, [POST, RUN, [[2, 3, 4], [0, 4], [2, 4, 5]], "k0", 4], bool),
+    (most_between, [LETTER, 2, 1], int),
+    (latest_alike, [POST, RUN, "k0", 5], list),
+    (earliest_alike, [POST, RUN, "k0", 5], list),
+    (latest_fit, [POST, "k0", 4, [(1, 0, 0)]], list),
+    (earliest_fit, [POST, "k0", 4, [(1, 0, 0)]], list),
+    (binding, [POST, RUN, "k0", 5, 2, 1], tuple),
+    (latest_chain, [POST, RUN, CHAIN], list),
+    (earliest_chain, [POST, RUN, CHAIN], list),
+    (knows_by, [POST, RUN, CHAIN, 0, 1, 5], bool),
+    (knows_from, [POST, RUN, CHAIN, 0, 1, 5], bool),
+    (knows_held, [POST, RUN, CHAIN, "s0", 5, 0], bool),
+    (first_hour, [POST, RUN, ["s0", "s0"], 0, 1, 4], int),
+    (common_run, [POST, RUN, ["k0", "s0"], 5], list),
+    (common_run, [POST, RUN, [], 5], list),
+    (commonly_by, [POST, RUN, ["k0", "s0"], 5, 0, 1, 5], bool),
+    (Setting, [CHART, 3, [SHIP, SHIP]], Setting),
+    (is_world, [SETTING, WORLD], bool),
+    (answers, [SETTING, WORLD[0]], list),
+    (view_of, [SETTING, WORLD, "s0", 2], tuple),
+    (alike, [SETTING, WORLD, WORLD, "s0", 2], bool),
+    (fits_view, [SETTING, WORLD, VIEW], bool),
+    (is_true, [SETTING, WORLD, ("in", 0, 2, (1,))], bool),
+    (sure, [SETTING, VIEW, CHAIN, ("in", 0, 2, (1,))], bool),
+    (counter, [SETTING, VIEW, CHAIN, ("in", 0, 2, (1,))], list),
+    (counter, [SETTING, VIEW, [], ("together", 0, 1, 2)], list),
+    (counter, [SETTING, OWN_VIEW, CHAIN, ("apart", 0, 1)], list),
+    (counter, [SETTING, OWN_VIEW, CHAIN, ("by", 0, 1, 4)], list),
+    (knows, [SETTING, WORLD, CHAIN, ("in", 0, 2, (1,))], bool),
+    (ends, [SETTING, VIEW, CHAIN, 1], list),
+    (ends, [SETTING, OWN_VIEW, [("s0", 0)], 0], list),
+    (count_ends, [SETTING, VIEW, CHAIN, 1], int),
+    (first_knowing, [SETTING, WORLD, ["s0"], ("in", 0, 2, (1,))], int),
 ]
 
 # Each call that is refused, with its error.
@@ -79,4 +125,11 @@ REFUSALS = [
     (NoDriving, verdict, [CHART, SHIP, [[3], [0]], 1, [1]]),
     (NoDriving, settling, [CHART, SHIP, [[3], [0]], 1, [1], 7]),
     (InvalidLetter, Letter, [0, [2, 1], "k0", [(0, "s0", 0, 0), (2, "s0", 0, 0)]]),
+    (NoRun, latest_fit, [POST, "k0", 4, [(0, 2, 4)]]),
+    (NoRun, earliest_fit, [POST, "k0", 4, [(1, 0, 0), (7, 0, 3)]]),
+    (InvalidSetting, Setting, [CHART, 3, []]),
+    (NoWorld, sure, [SETTING, OWN_VIEW[:4] + (None,), CHAIN, ("in", 0, 2, (1,))]),
+    (NoWorld, counter, [SETTING, OWN_VIEW[:4] + (None,), CHAIN, ("in", 0, 2, (1,))]),
+    (NoWorld, ends, [SETTING, VIEW[:2] + ((), ()) + VIEW[4:], CHAIN, 1]),
+    (NoWorld, count_ends, [SETTING, VIEW[:3] + ((), None), CHAIN, 1]),
 ]

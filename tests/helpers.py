@@ -9,6 +9,7 @@ from fogfleet.reports import Report
 from fogfleet.ships import Ship
 
 HUGE = 10 ** 39 + 7
+AGENTS = ["k0", "k1", "s0", "s3"]
 
 
 def small_chart():
@@ -170,6 +171,22 @@ def random_letter(dice, agents, size=4, hour=3, most=3, longest=2):
     return Letter(dice.randint(0, hour), random_zone(dice, size, 0.4), writer, hops)
 
 
+def random_post(seed, most=3):
+    dice = random.Random(seed)
+    return [random_letter(dice, AGENTS) for _ in range(dice.randint(0, most))]
+
+
+def long_post(seed):
+    """A letter that mostly goes from agent to agent, by many hops of at most one hour more."""
+    dice = random.Random(seed)
+    hops = []
+    for event in range(6):
+        low = dice.randint(0, 1)
+        hops.append((dice.choice([event, event, event, max(event - 1, 0)]), dice.choice(AGENTS),
+                     low, low + dice.choice([0, 1, 1])))
+    return [Letter(dice.randint(0, 2), [], "k0", hops)]
+
+
 def rows_of(letter):
     """All lists of hours that the events of the letter can have."""
     rows = []
@@ -194,6 +211,17 @@ def slow_seen(post, run, agent, hour):
             if at == agent and coming <= hour:
                 found.append((number, event, coming))
     return found
+
+
+def alike_to(post, runs, run, agent, hour):
+    """All of the runs that are alike to the run for the agent."""
+    comings = slow_seen(post, run, agent, hour)
+    return [other for other in runs if slow_seen(post, other, agent, hour) == comings]
+
+
+def extreme(runs, choice):
+    """The run that has for each event the least (min) or the greatest (max) hour of all runs."""
+    return [[choice(hours) for hours in zip(*rows)] for rows in zip(*runs)]
 
 
 def simple_ways(chart, start, goal, way=()):

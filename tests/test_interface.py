@@ -82,6 +82,45 @@ INTERFACE = {
         "held": "(post, run, agent, hour)",
         "alike_runs": "(post, first, second, agent, hour)",
     },
+    "bounds": {
+        "most_between": "(letter, first, second)",
+        "latest_alike": "(post, run, agent, hour)",
+        "earliest_alike": "(post, run, agent, hour)",
+        "latest_fit": "(post, agent, hour, comings)",
+        "earliest_fit": "(post, agent, hour, comings)",
+        "binding": "(post, run, agent, hour, letter, event)",
+    },
+    "chains": {
+        "latest_chain": "(post, run, chain)",
+        "earliest_chain": "(post, run, chain)",
+        "knows_by": "(post, run, chain, letter, event, by)",
+        "knows_from": "(post, run, chain, letter, event, since)",
+        "knows_held": "(post, run, chain, agent, hour, letter)",
+        "first_hour": "(post, run, agents, letter, event, by, limit=60)",
+    },
+    "common": {
+        "common_run": "(post, run, agents, hour)",
+        "commonly_by": "(post, run, agents, hour, letter, event, by)",
+    },
+    "setting": {
+        "Setting": "(chart, horizon, ships, *, reports=(), letters=())",
+    },
+    "worlds": {
+        "is_world": "(setting, world)",
+        "answers": "(setting, drivings)",
+        "view_of": "(setting, world, agent, hour)",
+        "alike": "(setting, first, second, agent, hour)",
+        "fits_view": "(setting, world, view)",
+        "is_true": "(setting, world, fact)",
+    },
+    "knowing": {
+        "sure": "(setting, view, chain, fact)",
+        "counter": "(setting, view, chain, fact)",
+        "knows": "(setting, world, chain, fact)",
+        "ends": "(setting, view, chain, number)",
+        "count_ends": "(setting, view, chain, number)",
+        "first_knowing": "(setting, world, agents, fact, limit=60)",
+    },
 }
 METHODS = {
     ("chart", "Chart"): {
@@ -95,6 +134,9 @@ METHODS = {
     },
     ("letters", "Letter"): {
         "agent_of": "(self, event)",
+    },
+    ("setting", "Setting"): {
+        "corridor": "(self, number)",
     },
 }
 

@@ -102,6 +102,54 @@ class LanguageTest(unittest.TestCase):
         for name, node in nodes(ast.arg):
             self.assertFalse(hasattr(builtins, node.arg), (name, node.lineno))
 
+    def test_no_other_name_is_that_of_an_import_or_a_class(self):
+        for path in files():
+            tree = ast.parse(path.read_text())
+            barred = {alias.name for node in tree.body if isinstance(node, ast.ImportFrom)
+                      for alias in node.names}
+            classes = [node.name for node in tree.body if isinstance(node, ast.ClassDef)]
+            functions = [node.name for node in tree.body if isinstance(node, ast.FunctionDef)]
+            self.assertFalse(barred & set(classes + functions), path.name)
+            barred |= set(classes)
+            for node in ast.walk(tree):
+                if isinstance(node, ast.arg):
+                    self.assertNotIn(node.arg, barred, (path.name, node.lineno))
+                if isinstance(node, ast.Name) and isinstance(node.ctx, ast.Store):
+                    self.assertNotIn(node.id, barred, (path.name, node.lineno))
+
+    def test_imports_are_used_and_go_in_no_circle(self):
+        above = {}
+        for path in files():
+            tree = ast.parse(path.read_text())
+            used = {node.id for node in ast.walk(tree) if isinstance(node, ast.Name)}
+            above[path.stem] = set()
+            for node in tree.body:
+                if isinstance(node, ast.ImportFrom):
+                    self.assertLessEqual({alias.name for alias in node.names}, used, path.name)
+                    above[path.stem].add(node.module.split(".")[-1])
+        while above:
+            # In each round the files go that import nothing that is still there.
+            rest = {name: found & set(above) for name, found in above.items() if found & set(above)}
+            self.assertLess(len(rest), len(above), rest)
+            above = rest
+
+    def test_no_name_of_a_method_is_that_of_an_attribute(self):
+        methods = {node.name for _, owner in nodes(ast.ClassDef) for node in owner.body
+                   if isinstance(node, ast.FunctionDef)}
+        stored = {node.attr for _, node in nodes(ast.Attribute) if isinstance(node.ctx, ast.Store)}
+        self.assertFalse(methods & stored)
+
+    def test_sets_are_written_only_where_they_may_stand(self):
+        kinds = (ast.SetComp, ast.Set, ast.GeneratorExp)
+        for path in files():
+            tree = ast.parse(path.read_text())
+            right = [part for node in ast.walk(tree) if isinstance(node, ast.Call)
+                     and isinstance(node.func, ast.Name) and node.func.id in ("sorted", "len")
+                     for part in node.args if isinstance(part, ast.SetComp)]
+            for node in ast.walk(tree):
+                if isinstance(node, kinds):
+                    self.assertIn(node, right, (path.name, node.lineno))
+
     def test_methods_with_double_underscores(self):
         for name, node in nodes(ast.FunctionDef):
             if node.name.startswith("__"):

@@ -5,15 +5,19 @@ import inspect
 import unittest
 
 from fogfleet import errors
+from fogfleet.chains import earliest_chain, latest_chain
 from fogfleet.chart import Chart
+from fogfleet.common import common_run
 from fogfleet.disbelief import strength
 from fogfleet.drivings import fits, fuel_along
 from fogfleet.errors import FleetError
+from fogfleet.knowing import counter, ends, sure
 from fogfleet.letters import Letter
 from fogfleet.lights import Light
 from fogfleet.numbering import count_drivings
 from fogfleet.reports import Report, corridor_of, unmet
 from fogfleet.runs import earliest_run, held, latest_run
+from fogfleet.setting import Setting
 from fogfleet.ships import Ship
 from fogfleet.sightings import flash_reports
 from fogfleet.tables import need_table, possible_places, rich_table
@@ -22,7 +26,7 @@ from tests.calls import CALLS, CHART, CORRIDOR, DRIVING, LIGHT, OTHER, POST, REF
 from tests.helpers import all_places, full_chart, line_chart, lists_in, spoil
 from tests.test_interface import INTERFACE
 
-OBJECTS = (Chart, Ship, Light, Report, Letter)
+OBJECTS = (Chart, Ship, Light, Report, Letter, Setting)
 
 
 def copied(arguments):
@@ -150,6 +154,34 @@ class OwnListsTest(unittest.TestCase):
             answer = function([letter] * 6)
             self.assertEqual(answer, [[3, 4]] * 6)
             self.check_different_lists(answer)
+
+    def test_runs_and_worlds_that_are_alike_are_different_lists(self):
+        letter = Letter(3, [], "k0", [(0, "s0", 1, 1)])
+        post, run = [letter] * 6, [[3, 4]] * 6
+        for function in (latest_chain, earliest_chain):
+            answer = function(post, run, [("k0", 5)] * 6)
+            self.assertEqual(answer, [run] * 6)
+            self.check_different_lists(answer)
+        self.check_different_lists(common_run(post, run, [], 5))
+        self.check_different_lists(common_run(post, run, ["k0"], 5))
+        still = Ship(0, fast=0)
+        setting = Setting(line_chart(2), 2, [still] * 4, letters=[Letter(2, [0], "k0", [])] * 2)
+        view = ("k0", 0, (), (), None)
+        for seen in (view, ("s0", 1, (), (), (0, 0))):
+            for fact in (("by", 0, 0, 1), ("out", 1, 0, (0,)), ("in", 1, 0, ()), ("together", 1, 2, 0),
+                         ("apart", 1, 2)):
+                for chain in ([], [("k0", 0)] * 6, [("s1", 2)] * 6, [("s0", 0), ("k1", 1)]):
+                    answer = counter(setting, seen, chain, fact)
+                    self.assertEqual(len(answer), len(chain) + 1)
+                    self.check_different_lists(answer)
+            self.check_different_lists(ends(setting, seen, [("s0", 1)], 0))
+
+    def test_changed_lists_for_worlds_are_looked_at_again(self):
+        setting = Setting(line_chart(2), 1, [Ship(0)])
+        view, chain = ("s0", 0, (), (), (0,)), []
+        self.assertTrue(sure(setting, view, chain, ("in", 0, 0, (0,))))
+        chain.append(("k0", 0))
+        self.assertFalse(sure(setting, view, chain, ("in", 0, 0, (0,))))
 
     def check_different_lists(self, answer):
         found = lists_in(answer)

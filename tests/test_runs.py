@@ -6,16 +6,10 @@ import unittest
 
 from fogfleet.letters import Letter
 from fogfleet.runs import alike_runs, earliest_run, held, is_run, latest_run, seen
-from tests.helpers import HUGE, random_letter, runs_of, slow_seen
+from tests.helpers import AGENTS, HUGE, random_post, runs_of, slow_seen
 
-AGENTS = ["k0", "k1", "s0", "s3"]
 CHAIN = Letter(2, [0, 1], "k1", [(0, "s0", 1, 3), (1, "k0", 0, 2)])
 TREE = Letter(5, [], "k0", [(0, "k1", 1, 1), (0, "s3", 2, 6), (1, "s3", 0, 3), (1, "k0", 4, 5)])
-
-
-def random_post(seed):
-    dice = random.Random(seed)
-    return [random_letter(dice, AGENTS) for _ in range(dice.randint(0, 3))]
 
 
 class IsRunTest(unittest.TestCase):

@@ -3,11 +3,17 @@
 import time
 import unittest
 
+from fogfleet.bounds import (binding, earliest_alike, earliest_fit, latest_alike, latest_fit,
+                             most_between)
+from fogfleet.chains import (earliest_chain, first_hour, knows_by, knows_from, knows_held,
+                             latest_chain)
 from fogfleet.chart import Chart
 from fogfleet.charttext import format_chart, parse_chart
 from fogfleet.drivings import fits, fuel_along
+from fogfleet.common import common_run, commonly_by
 from fogfleet.disbelief import reason, strength
 from fogfleet.errors import BadText, DoesNotFit, NoSuchNumber
+from fogfleet.knowing import count_ends, counter, ends, first_knowing, knows, sure
 from fogfleet.letters import Letter
 from fogfleet.lights import Light, flashes, sight_zone
 from fogfleet.numbering import count_drivings, driving_at, number_of
@@ -15,11 +21,13 @@ from fogfleet.questions import settling, verdict
 from fogfleet.reach import first_driving, next_places, reach_hours
 from fogfleet.reports import Report, corridor_of, unmet
 from fogfleet.runs import alike_runs, earliest_run, held, is_run, latest_run, seen
+from fogfleet.setting import Setting
 from fogfleet.ships import Ship, moves, step_lanes
 from fogfleet.sightings import flash_reports, flash_zone, lights_seen
 from fogfleet.tables import need_table, possible_places, rich_table
 from fogfleet.telling import agreeing_shifts, certain_light, readings, telling_length
 from fogfleet.ways import arrivals, count_lanes, shortest_way, widest_way
+from fogfleet.worlds import alike, answers, fits_view, is_true, is_world, view_of
 from tests.helpers import HUGE, all_pairs, all_places, full_chart, line_chart
 
 LIMIT = 0.5
@@ -164,6 +172,78 @@ class SpeedTest(unittest.TestCase):
         self.quick(lambda: self.assertTrue(is_run(post, run)))
         self.quick(lambda: [seen(post, run, "s3", 96), held(post, run, "s3", 96)])
         self.quick(lambda: alike_runs(post, run, earliest_run(post), "s3", 96))
+
+    def posts(self):
+        """Posts of 6 letters of 6 hops between few agents, with hours of letters of all sorts."""
+        for hours in ((24,) * 6, (0, 1, 2, 3, 4, 5), (0, 1, 2, 3, 23, 24), (4, 8, 12, 16, 20, 24)):
+            post = []
+            for number, hour in enumerate(hours):
+                zone = [place for place in range(12) if (place * 7 + number * 5 + number ** 2) % 3 == 0]
+                agents = ["s0", "k5", "s1", "k6", "s3", "k0"]
+                hops = [(event, agents[(event + number) % 6], 0, 6) for event in range(6)]
+                post.append(Letter(hour, zone, f"k{number}", hops))
+            yield post
+
+    def test_bounds(self):
+        for post in self.posts():
+            for run in (earliest_run(post), latest_run(post)):
+                self.quick(lambda: [latest_alike(post, run, "s0", 96), earliest_alike(post, run, "s0", 30)])
+                comings = seen(post, run, "k0", 96)
+                self.quick(lambda: [latest_fit(post, "k0", 96, comings), earliest_fit(post, "k0", 96, comings)])
+                self.quick(lambda: [binding(post, run, "s0", 96, 5, 6), most_between(post[5], 6, 0)])
+
+    def test_chains(self):
+        chain = [("s0", 40), ("k5", 30), ("s1", 96), ("k6", 25), ("s3", 50), ("k0", 96)]
+        agents = [agent for agent, hour in chain]
+        for post in self.posts():
+            for run in (earliest_run(post), latest_run(post)):
+                self.quick(lambda: [latest_chain(post, run, chain), earliest_chain(post, run, chain)])
+                self.quick(lambda: [knows_by(post, run, chain, 5, 6, HUGE), knows_from(post, run, chain, 5, 6, HUGE),
+                                    knows_held(post, run, chain, "k0", 96, 5)])
+                self.quick(lambda: self.assertIsNone(first_hour(post, run, agents, 5, 6, -1, 96)))
+                self.quick(lambda: [common_run(post, run, agents, 96), commonly_by(post, run, agents, 40, 5, 6, 1)])
+
+    def settings(self):
+        """Settings at all limits at once, each with a world; the posts take turns."""
+        posts = list(self.posts())
+        for number, (chart, ship, corridor) in enumerate(self.cases()):
+            driving = first_driving(chart, ship, corridor)
+            if driving is None:
+                continue
+            # No place of this driving is reported to be empty.
+            reports = [Report(k % 4, k % 25, [(driving[k % 25] + k % 11 + 1) % 12], weight=99, inside=False)
+                       for k in range(40)]
+            post = posts[(number + number // 4) % 4]
+            setting = Setting(chart, 24, [ship] * 4, reports=reports, letters=post)
+            yield setting, ([list(driving) for _ in range(4)], latest_run(post))
+
+    def test_worlds(self):
+        for setting, world in self.settings():
+            self.quick(lambda: self.assertTrue(is_world(setting, world)))
+            self.quick(lambda: [answers(setting, world[0]), is_true(setting, world, ("apart", 0, 3))])
+            view = view_of(setting, world, "s0", 96)
+            self.quick(lambda: self.assertTrue(fits_view(setting, world, view)))
+            self.quick(lambda: self.assertTrue(alike(setting, world, world, "s0", 96)))
+
+    def test_knowing(self):
+        chain = [("s0", 20), ("k5", 30), ("s0", 10), ("s1", 40), ("s0", 15), ("k6", 60)]
+        facts = [("in", 0, 12, (1, 2, 3)), ("together", 0, 1, 12), ("apart", 0, 1), ("from", 5, 6, 96)]
+        for number, (setting, world) in enumerate(self.settings()):
+            fact = facts[number % 4]
+            for agent, hour in (("s0", 22), ("k5", 60)):
+                view = view_of(setting, world, agent, hour)
+                self.quick(lambda: sure(setting, view, chain, fact))
+                self.quick(lambda: counter(setting, view, chain, fact))
+                self.quick(lambda: ends(setting, view, chain, 0))
+                self.quick(lambda: count_ends(setting, view, chain[:-1], 0))
+            self.quick(lambda: knows(setting, world, chain, fact))
+
+    def test_first_knowing(self):
+        agents = ["s0", "k5", "s0", "s1", "s0", "k6"]
+        facts = [("in", 0, 12, ()), ("together", 0, 1, 24), ("apart", 0, 1), ("by", 5, 6, 0)]
+        for number, (setting, world) in enumerate(self.settings()):
+            fact = facts[number % 4]
+            self.quick(lambda: first_knowing(setting, world, agents, fact, 96))
 
 
 if __name__ == "__main__":
