@@ -34,17 +34,34 @@ def ways_on(outcomes):
     return count_table(outcomes.chart, outcomes.ship, outcomes.allowed)
 
 
+def states_with(outcomes, row, table):
+    """Return the states of a way through the hours of the table that has the row in its cells."""
+    states = []
+    rest = row
+    for cells, gains in zip(table, outcomes.gains):
+        found = next_states(outcomes.chart, outcomes.ship, states)
+        right = [(place, fuel) for place, fuel in found if has_row(cells[place][fuel], rest - gains[place])]
+        states.append(right[0])
+        rest -= gains[right[0][0]]
+    return states
+
+
+def driving_with(outcomes, row):
+    """Return a fitting driving with the row, which is that of one of them."""
+    return [place for place, fuel in states_with(outcomes, row, outcomes.later)]
+
+
 class Begun:
     """The bundle of the drivings that begin with given places (at least one)."""
 
     def __init__(self, outcomes, places):
         self.outcomes = outcomes
-        self.places = list(places)
-        self.hour = len(self.places) - 1
+        self.known = list(places)
+        self.hour = len(self.known) - 1
 
     def after_own(self, hour):
         """Return the bundle after a link of the ship itself at the hour."""
-        return Begun(self.outcomes, self.places[:hour + 1])
+        return Begun(self.outcomes, self.known[:hour + 1])
 
     def after_other(self, letters):
         """Return the bundle after a link of another agent that holds the letters."""
@@ -52,27 +69,27 @@ class Begun:
 
     def rows(self):
         """Return the rows of the drivings."""
-        fuel = self.outcomes.fuel_at_end(self.places)
+        fuel = self.outcomes.fuel_at_end(self.known)
         if fuel is None:
             return 0
-        later = self.outcomes.later[self.hour][self.places[-1]][fuel]
-        return later << self.outcomes.row_of(self.places)
+        later = self.outcomes.later[self.hour][self.known[-1]][fuel]
+        return later << self.outcomes.row_of(self.known)
 
     def zones(self):
         """Return the zones of the places of the drivings."""
         fuels = [None] * self.outcomes.chart.size
-        fuels[self.places[-1]] = self.outcomes.fuel_at_end(self.places)
-        return [[place] for place in self.places] + self.outcomes.zones_after(self.hour, fuels)
+        fuels[self.known[-1]] = self.outcomes.fuel_at_end(self.known)
+        return [[place] for place in self.known] + self.outcomes.zones_after(self.hour, fuels)
 
     def count(self):
         """Return how many drivings there are."""
-        fuel = self.outcomes.fuel_at_end(self.places)
-        return ways_on(self.outcomes)[self.hour][self.places[-1]][fuel]
+        fuel = self.outcomes.fuel_at_end(self.known)
+        return ways_on(self.outcomes)[self.hour][self.known[-1]][fuel]
 
     def one_within(self, corridor):
         """Return one of the drivings that fits the narrower corridor, if there is one."""
         chart, ship = self.outcomes.chart, self.outcomes.ship
-        return first_driving(chart, ship, beginning_with(corridor, self.places))
+        return first_driving(chart, ship, beginning_with(corridor, self.known))
 
 
 class Answered:
@@ -166,7 +183,7 @@ class Answered:
         chart, ship = outcomes.chart, outcomes.ship
         needs = need_rows(chart, ship, corridor, outcomes.steps)
         table = self.cells_within(corridor, needs)
-        states = self.states_with(self.row_within(table), table)
+        states = states_with(outcomes, self.row_within(table), table)
         while len(states) <= outcomes.horizon:
             states.append(goings_on(chart, ship, needs, states)[0])
         return [place for place, fuel in states]
@@ -192,15 +209,3 @@ class Answered:
         for place, fuel in next_states(self.outcomes.chart, self.outcomes.ship, []):
             found |= cells[place][fuel] & self.given
         return members(found)[0]
-
-    def states_with(self, row, table):
-        """Return the states of a way up to the hour of the bundle that can go on to the row."""
-        states = []
-        rest = row
-        for cells, gains in zip(table, self.outcomes.gains):
-            found = next_states(self.outcomes.chart, self.outcomes.ship, states)
-            right = [(place, fuel) for place, fuel in found
-                     if has_row(cells[place][fuel], rest - gains[place])]
-            states.append(right[0])
-            rest -= gains[right[0][0]]
-        return states

@@ -2,10 +2,9 @@
 
 from fogfleet.agents import is_agent, is_keeper
 from fogfleet.errors import InvalidLetter
-from fogfleet.limits import GREATEST_HOUR, MOST_PLACES
+from fogfleet.limits import GREATEST_HOUR, MOST_HOPS, MOST_PLACES
 from fogfleet.zones import right_zone
 
-MOST_HOPS = 6
 LONGEST_HOP = 6
 
 

@@ -1,10 +1,8 @@
 """Reports of where ships were."""
 
 from fogfleet.errors import InvalidReport
-from fogfleet.limits import GREATEST_HOUR, MOST_PLACES, MOST_SHIPS
+from fogfleet.limits import GREATEST_HOUR, GREATEST_WEIGHT, MOST_PLACES, MOST_SHIPS
 from fogfleet.zones import right_zone
-
-GREATEST_WEIGHT = 99
 
 
 def wrong_part_of_report(ship, hour, zone, weight):

@@ -2,10 +2,8 @@
 
 from fogfleet.agents import ship_number
 from fogfleet.errors import InvalidSetting
-from fogfleet.limits import GREATEST_HOUR, MOST_SHIPS
+from fogfleet.limits import GREATEST_HOUR, MOST_LETTERS, MOST_SHIPS
 from fogfleet.reports import corridor_of
-
-MOST_LETTERS = 6
 
 
 def right_look(chart, horizon, hour, zone):

@@ -1,4 +1,10 @@
-"""Numbers as words of texts and lines."""
+"""Numbers and zones as words of texts and lines."""
+
+from fogfleet.limits import MOST_PLACES
+
+# Hours and entries are written with at most 3 digits.
+GREATEST_NUMBER = 999
+NO_PLACE = "-"
 
 
 def number_of(word, greatest):
@@ -14,3 +20,18 @@ def number_of(word, greatest):
     if str(number) != word or number > greatest:
         return None
     return number
+
+
+def zone_word(zone):
+    """Return the word that writes the zone."""
+    return ",".join([str(place) for place in sorted(zone)]) or NO_PLACE
+
+
+def zone_of(word):
+    """Return the ascending tuple of places that the word writes, or None."""
+    if word == NO_PLACE:
+        return ()
+    places = [number_of(part, MOST_PLACES - 1) for part in word.split(",")]
+    if None in places or places != sorted(set(places)):
+        return None
+    return tuple(places)

@@ -5,20 +5,26 @@ from fogfleet.bounds import (binding, earliest_alike, earliest_fit, latest_alike
 from fogfleet.chains import (earliest_chain, first_hour, knows_by, knows_from, knows_held,
                              latest_chain)
 from fogfleet.chart import Chart
+from fogfleet.claims import format_claim, parse_claim
 from fogfleet.common import common_run, commonly_by
 from fogfleet.disbelief import reason, strength
 from fogfleet.drivings import fits, fuel_along
-from fogfleet.errors import (DoesNotFit, InvalidLetter, InvalidLight, InvalidReport, InvalidSetting,
-                             NoDriving, NoRun, NoSuchNumber, NoWorld)
+from fogfleet.errors import (BadClaim, DoesNotFit, InvalidLetter, InvalidLight, InvalidReport, InvalidSetting,
+                             NoDriving, NoRun, NoSuchNumber, NotInPlay, NoWay, NoWorld)
+from fogfleet.giveway import GiveWay, who_gives_way
 from fogfleet.knowing import count_ends, counter, ends, first_knowing, knows, sure
+from fogfleet.leastletters import least_letters, parting_world
+from fogfleet.legs import leg_driving, leg_hours, leg_speeds, voyage
 from fogfleet.letters import Letter
 from fogfleet.lights import Light, flashes, sight_zone
+from fogfleet.meeting import meeting_hours, meeting_verdict, meetings
 from fogfleet.numbering import count_drivings, driving_at, number_of
 from fogfleet.questions import settling, verdict
 from fogfleet.reach import first_driving, next_places, reach_hours
 from fogfleet.reports import Report, corridor_of, unmet
 from fogfleet.runs import alike_runs, earliest_run, held, is_run, latest_run, seen
 from fogfleet.setting import Setting
+from fogfleet.shared import common_counter, commonly
 from fogfleet.ships import Ship
 from fogfleet.sightings import flash_reports, flash_zone, lights_seen
 from fogfleet.tables import need_table, possible_places, rich_table
@@ -41,6 +47,9 @@ SETTING = Setting(CHART, 3, [SHIP, SHIP], reports=[Report(0, 0, [3, 0])], letter
 WORLD = ([[0, 0, 1, 1], [2, 2, 2, 2]], RUN)
 VIEW = ("k0", 4, ((1, 0, 0),), ((1, (False, False)),), None)
 OWN_VIEW = ("s0", 1, (), (), (0, 0))
+COUPLE = [CHART, SHIP, CORRIDOR, SHIP, [[2, 0], (2, 1, 0), [3, 2, 0], [2]]]
+TWINS = [CHART, SHIP, CORRIDOR, SHIP, CORRIDOR]
+SAILOR = Ship(3, slow=1, fast=2)
 
 # Each call with what is passed to it, and the kind of its answer.
 CALLS = [
@@ -112,6 +121,26 @@ CALLS = [
     (ends, [SETTING, OWN_VIEW, [("s0", 0)], 0], list),
     (count_ends, [SETTING, VIEW, CHAIN, 1], int),
     (first_knowing, [SETTING, WORLD, ["s0"], ("in", 0, 2, (1,))], int),
+    (commonly, [SETTING, WORLD, ["k0", "s0"], 4, ("in", 0, 2, (1,))], bool),
+    (common_counter, [SETTING, WORLD, ["k0", "s0"], 4, ("in", 0, 2, (1,))], tuple),
+    (common_counter, [SETTING, WORLD, ["k0", "s0", "k0"], 4, ("by", 0, 1, 3)], tuple),
+    (common_counter, [SETTING, WORLD, ["k7", "s0"], 3, ("apart", 0, 1)], tuple),
+    (common_counter, [SETTING, WORLD, [], 4, ("in", 0, 2, (2, 3))], tuple),
+    (least_letters, [SETTING, WORLD, "k7", 2, ("in", 0, 2, (0, 1))], list),
+    (parting_world, [SETTING, WORLD, "k7", 2, [2, 0], ("in", 0, 2, (1,))], tuple),
+    (format_claim, [CHAIN, ("in", 0, 2, (1, 3))], str),
+    (parse_claim, ["k1@3 knows s0@5 knows ship 1 in 2,3 at 4"], tuple),
+    (meetings, COUPLE, list),
+    (meetings, TWINS, list),
+    (meeting_verdict, COUPLE, tuple),
+    (meeting_verdict, TWINS, tuple),
+    (meeting_hours, COUPLE, tuple),
+    (GiveWay, COUPLE, GiveWay),
+    (who_gives_way, COUPLE, tuple),
+    (leg_hours, [5, 1, 2], tuple),
+    (leg_speeds, [5, 1, 2, 4], list),
+    (leg_driving, [[0, 1, 2, 1], [1, 1, 2]], list),
+    (voyage, [CHART, SAILOR, [0, 3, 3]], list),
 ]
 
 # Each call that is refused, with its error.
@@ -132,4 +161,13 @@ REFUSALS = [
     (NoWorld, counter, [SETTING, OWN_VIEW[:4] + (None,), CHAIN, ("in", 0, 2, (1,))]),
     (NoWorld, ends, [SETTING, VIEW[:2] + ((), ()) + VIEW[4:], CHAIN, 1]),
     (NoWorld, count_ends, [SETTING, VIEW[:3] + ((), None), CHAIN, 1]),
+    (BadClaim, parse_claim, ["k1@3 knows"]),
+    (NoDriving, meetings, [CHART, SHIP, CORRIDOR, SHIP, [[3], [0], [0], [0]]]),
+    (NoDriving, meeting_verdict, [CHART, SHIP, [[3], [0], [0], [0]], SHIP, CORRIDOR]),
+    (NoDriving, meeting_hours, [CHART, SHIP, [[], [0], [0], [0]], SHIP, CORRIDOR]),
+    (NoDriving, GiveWay, [CHART, SHIP, CORRIDOR, SHIP, [[3], [0], [0], [0]]]),
+    (NoDriving, who_gives_way, [CHART, SHIP, CORRIDOR, SHIP, [[3], [0], [0], [0]]]),
+    (NotInPlay, GiveWay(*COUPLE), [[3, 3], [0]]),
+    (NotInPlay, GiveWay(*TWINS), [[0, 0], [0, 1, 2, 1]]),
+    (NoWay, voyage, [CHART, Ship(6, slow=1), [0, 0]]),
 ]

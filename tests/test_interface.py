@@ -121,6 +121,33 @@ INTERFACE = {
         "count_ends": "(setting, view, chain, number)",
         "first_knowing": "(setting, world, agents, fact, limit=60)",
     },
+    "shared": {
+        "commonly": "(setting, world, agents, hour, fact)",
+        "common_counter": "(setting, world, agents, hour, fact)",
+    },
+    "leastletters": {
+        "least_letters": "(setting, world, agent, hour, fact)",
+        "parting_world": "(setting, world, agent, hour, letters, fact)",
+    },
+    "claims": {
+        "format_claim": "(chain, fact)",
+        "parse_claim": "(line)",
+    },
+    "meeting": {
+        "meetings": "(chart, first, first_corridor, second, second_corridor)",
+        "meeting_verdict": "(chart, first, first_corridor, second, second_corridor)",
+        "meeting_hours": "(chart, first, first_corridor, second, second_corridor)",
+    },
+    "giveway": {
+        "GiveWay": "(chart, first, first_corridor, second, second_corridor)",
+        "who_gives_way": "(chart, first, first_corridor, second, second_corridor)",
+    },
+    "legs": {
+        "leg_hours": "(length, slow, fast)",
+        "leg_speeds": "(length, slow, fast, hours)",
+        "leg_driving": "(way, speeds)",
+        "voyage": "(chart, ship, stops)",
+    },
 }
 METHODS = {
     ("chart", "Chart"): {
@@ -137,6 +164,9 @@ METHODS = {
     },
     ("setting", "Setting"): {
         "corridor": "(self, number)",
+    },
+    ("giveway", "GiveWay"): {
+        "__call__": "(self, first_places, second_places)",
     },
 }
 

@@ -11,13 +11,17 @@ from fogfleet.common import common_run
 from fogfleet.disbelief import strength
 from fogfleet.drivings import fits, fuel_along
 from fogfleet.errors import FleetError
+from fogfleet.giveway import GiveWay
 from fogfleet.knowing import counter, ends, sure
+from fogfleet.leastletters import parting_world
 from fogfleet.letters import Letter
 from fogfleet.lights import Light
+from fogfleet.meeting import meeting_hours, meeting_verdict, meetings
 from fogfleet.numbering import count_drivings
 from fogfleet.reports import Report, corridor_of, unmet
 from fogfleet.runs import earliest_run, held, latest_run
 from fogfleet.setting import Setting
+from fogfleet.shared import common_counter, commonly
 from fogfleet.ships import Ship
 from fogfleet.sightings import flash_reports
 from fogfleet.tables import need_table, possible_places, rich_table
@@ -26,7 +30,7 @@ from tests.calls import CALLS, CHART, CORRIDOR, DRIVING, LIGHT, OTHER, POST, REF
 from tests.helpers import all_places, full_chart, line_chart, lists_in, spoil
 from tests.test_interface import INTERFACE
 
-OBJECTS = (Chart, Ship, Light, Report, Letter, Setting)
+OBJECTS = (Chart, Ship, Light, Report, Letter, Setting, GiveWay)
 
 
 def copied(arguments):
@@ -175,6 +179,36 @@ class OwnListsTest(unittest.TestCase):
                     self.assertEqual(len(answer), len(chain) + 1)
                     self.check_different_lists(answer)
             self.check_different_lists(ends(setting, seen, [("s0", 1)], 0))
+
+    def test_what_agents_have_in_common_and_drivings_of_pairs_are_different_lists(self):
+        still = Ship(0, fast=0)
+        letters = [Letter(2, [0], "k0", [(0, "k1", 0, 1), (1, "k0", 0, 1)])] * 2
+        setting = Setting(line_chart(2), 2, [still] * 4, letters=letters)
+        world = ([[0, 0, 0]] * 4, [[2, 2, 2]] * 2)
+        for fact in (("by", 0, 2, 2), ("out", 1, 0, (1,)), ("apart", 2, 3), ("together", 2, 3, 1)):
+            for agents in ([], ["k0", "k1"], ["k7"], ["s2", "s0"]):
+                self.check_different_lists(common_counter(setting, world, agents, 2, fact))
+        found = common_counter(setting, world, ["k0", "k1"], 2, ("by", 0, 2, 2))
+        self.assertGreater(len(found[0]), 0)
+        self.check_different_lists(found)
+        self.check_different_lists(parting_world(setting, world, "k7", 2, [], ("in", 0, 0, (0,))))
+        chart = line_chart(3)
+        for zones in ([[1]] * 4, [[1, 2]] * 4, [[0, 2], [0, 1, 2], [0, 1, 2]]):
+            for other in (zones, [[0]] * len(zones)):
+                for function in (meetings, meeting_verdict):
+                    self.check_different_lists(function(chart, Ship(0), zones, Ship(0), other))
+
+    def test_changed_lists_for_pairs_and_in_common_are_looked_at_again(self):
+        chart, zones, agents = line_chart(3), [[0, 1], [0, 1]], ["s0"]
+        pair = [chart, Ship(0), zones, Ship(0), [[2], [1, 2]]]
+        self.assertEqual(meetings(*pair), [[], [1]])
+        zones[1].remove(1)
+        self.assertEqual(meetings(*pair), [[], []])
+        self.assertEqual(meeting_hours(*pair), (None, None))
+        setting = Setting(chart, 1, [Ship(0)])
+        self.assertTrue(commonly(setting, ([[0, 1]], []), agents, 1, ("in", 0, 1, (1,))))
+        agents.append("k0")
+        self.assertFalse(commonly(setting, ([[0, 1]], []), agents, 1, ("in", 0, 1, (1,))))
 
     def test_changed_lists_for_worlds_are_looked_at_again(self):
         setting = Setting(line_chart(2), 1, [Ship(0)])

@@ -9,19 +9,25 @@ from fogfleet.chains import (earliest_chain, first_hour, knows_by, knows_from, k
                              latest_chain)
 from fogfleet.chart import Chart
 from fogfleet.charttext import format_chart, parse_chart
+from fogfleet.claims import format_claim, parse_claim
 from fogfleet.drivings import fits, fuel_along
 from fogfleet.common import common_run, commonly_by
 from fogfleet.disbelief import reason, strength
-from fogfleet.errors import BadText, DoesNotFit, NoSuchNumber
+from fogfleet.errors import BadClaim, BadText, DoesNotFit, NoSuchNumber
+from fogfleet.giveway import GiveWay, who_gives_way
 from fogfleet.knowing import count_ends, counter, ends, first_knowing, knows, sure
+from fogfleet.leastletters import least_letters, parting_world
+from fogfleet.legs import leg_driving, leg_hours, leg_speeds, voyage
 from fogfleet.letters import Letter
 from fogfleet.lights import Light, flashes, sight_zone
+from fogfleet.meeting import meeting_hours, meeting_verdict, meetings
 from fogfleet.numbering import count_drivings, driving_at, number_of
 from fogfleet.questions import settling, verdict
 from fogfleet.reach import first_driving, next_places, reach_hours
 from fogfleet.reports import Report, corridor_of, unmet
 from fogfleet.runs import alike_runs, earliest_run, held, is_run, latest_run, seen
 from fogfleet.setting import Setting
+from fogfleet.shared import common_counter, commonly
 from fogfleet.ships import Ship, moves, step_lanes
 from fogfleet.sightings import flash_reports, flash_zone, lights_seen
 from fogfleet.tables import need_table, possible_places, rich_table
@@ -244,6 +250,86 @@ class SpeedTest(unittest.TestCase):
         for number, (setting, world) in enumerate(self.settings()):
             fact = facts[number % 4]
             self.quick(lambda: first_knowing(setting, world, agents, fact, 96))
+
+    def test_shared(self):
+        many = ["s0", "k5", "s1", "k6", "s3", "k0"]
+        facts = [("in", 0, 12, ()), ("together", 0, 1, 24), ("apart", 0, 1), ("from", 5, 6, 90), ("by", 5, 6, 0),
+                 ("by", 5, 6, 96), ("holds", "k0", 96, 5)]
+        for number, (setting, world) in enumerate(self.settings()):
+            early = (world[0], earliest_run(setting.letters))
+            for agents, hour in ((many, 24), (["s0"], 10), (["k5", "s0", "k6"] * 2, 40)):
+                fact = facts[number % len(facts)]
+                for start in (world, early):
+                    self.quick(lambda: commonly(setting, start, agents, hour, fact))
+                    self.quick(lambda: common_counter(setting, start, agents, hour, fact))
+
+    def test_many_steps_in_common(self):
+        # Each keeper lacks one letter, so that only neighbouring rows of answers are alike for it.
+        snake = [0, 1, 3, 7, 6, 14, 12, 13, 29, 31, 27, 26]
+        letters = []
+        for letter in range(6):
+            zone = [place for place in range(12) if snake[place] >> letter & 1]
+            letters.append(Letter(20 + letter % 5, zone, "k9", [(0, f"k{k}", 0, 0) for k in range(6) if k != letter]))
+        for ship in (Ship(0, fast=0), Ship(0, fast=3)):
+            setting = Setting(full_chart(depth=99, tide=TIDE), 24, [ship] * 4, letters=letters)
+            world = ([[0] * 25 for _ in range(4)], latest_run(letters))
+            agents = [f"k{k}" for k in range(6)]
+            for fact in (("out", 3, 12, (11,)), ("together", 0, 3, 24), ("apart", 2, 1)):
+                for hour in (24, 96):
+                    self.quick(lambda: self.assertIsNotNone(common_counter(setting, world, agents, hour, fact)))
+                    self.quick(lambda: self.assertFalse(commonly(setting, world, agents, hour, fact)))
+
+    def test_least_letters(self):
+        for number, (setting, world) in enumerate(self.settings()):
+            zone = [(), (1, 2, 3), tuple(range(12)), (world[0][0][12],)][number % 4]
+            for agent in ("s0", "k5", "k9"):
+                for fact in (("in", 0, 12, zone), ("out", 0, 24, zone)):
+                    self.quick(lambda: least_letters(setting, world, agent, 24, fact))
+                    self.quick(lambda: parting_world(setting, world, agent, 24, [5, 4, 3, 2, 1, 0], fact))
+
+    def test_claims(self):
+        chain = [("k9", 999), ("s3", 999)] * 3
+        for fact in (("out", 3, 999, tuple(range(12))), ("together", 3, 2, 999), ("holds", "k9", 999, 5)):
+            self.quick(lambda: self.assertEqual(parse_claim(format_claim(chain, fact)), (chain, fact)))
+        for wrong in ("k9@" + "9" * 10 ** 6, "k1@3 knows " * 10 ** 5, " " * 10 ** 6, "x" * 10 ** 6,
+                      "ship 1 in " + "1," * 10 ** 5 + " at 4", "ship 1 in 2 at 4" + " at" * 10 ** 5,
+                      "ships " + "0," * 10 ** 5 + " apart", "@" * 10 ** 6):
+            self.quick(lambda: self.assertRaises(BadClaim, parse_claim, wrong))
+
+    def couples(self):
+        """Charts and two ships with corridors at all limits at once."""
+        for number, (chart, ship, corridor) in enumerate(self.cases()):
+            if first_driving(chart, ship, corridor) is not None:
+                other = [Ship(99, fast=3), Ship(99, fast=2, tank=5, fuel=1)][number % 2]
+                pair = [ship, corridor, other, corridor] if number % 3 else [other, corridor, ship, corridor]
+                yield [chart] + pair
+
+    def test_meetings(self):
+        for couple in self.couples():
+            self.quick(lambda: meetings(*couple))
+            self.quick(lambda: meeting_verdict(*couple))
+            self.quick(lambda: meeting_hours(*couple))
+
+    def test_giving_way(self):
+        for couple in self.couples():
+            self.quick(lambda: GiveWay(*couple))
+            self.quick(lambda: who_gives_way(*couple))
+            play = GiveWay(*couple)
+            apart = meeting_verdict(*couple)[2]
+            if apart is None:
+                continue
+            lead = 1 if play.keeps_clear else 0
+            for many in (0, 12, 23):
+                self.quick(lambda: play(apart[0][:many + lead], apart[1][:many]))
+
+    def test_legs(self):
+        for length in range(41):
+            for slow, fast in ((1, 1), (1, 3), (2, 3)):
+                self.quick(lambda: leg_hours(length, slow, fast))
+                self.quick(lambda: [leg_speeds(length, slow, fast, hours) for hours in range(101)])
+        self.quick(lambda: leg_driving([k % 12 for k in range(41)], [3] * 50))
+        for chart in self.charts():
+            self.quick(lambda: voyage(chart, Ship(99, slow=1, fast=3), [0, 11] * 6))
 
 
 if __name__ == "__main__":
