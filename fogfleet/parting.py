@@ -72,9 +72,7 @@ class Parting:
         for place, row in enumerate(self.steps[number][hour]):
             lanes = dict(row).get(goal)
             if lanes is not None:
-                least = lanes if self.chart.is_harbour(goal) else lanes + need
-                if least <= self.ships[number].tank:
-                    found.append((place, least))
+                found.append((place, lanes if self.chart.is_harbour(goal) else lanes + need))
         return found
 
     def pair_before(self, hour, pair):

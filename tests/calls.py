@@ -7,11 +7,16 @@ from fogfleet.chains import (earliest_chain, first_hour, knows_by, knows_from, k
 from fogfleet.chart import Chart
 from fogfleet.claims import format_claim, parse_claim
 from fogfleet.common import common_run, commonly_by
+from fogfleet.deeds import format_deeds, parse_deeds
+from fogfleet.desk import Desk, replay
 from fogfleet.disbelief import reason, strength
 from fogfleet.drivings import fits, fuel_along
-from fogfleet.errors import (BadClaim, DoesNotFit, InvalidLetter, InvalidLight, InvalidReport, InvalidSetting,
-                             NoDriving, NoRun, NoSuchNumber, NotInPlay, NoWay, NoWorld)
+from fogfleet.errors import (BadClaim, BadText, Contradiction, DoesNotFit, InvalidLetter, InvalidLight, InvalidOrder,
+                             InvalidReceipt, InvalidReport, InvalidSetting, InvalidStay, NoDriving, NoRun, NoSuchNumber,
+                             NotInPlay, NothingToRedo, NothingToUndo, NoWay, NoWorld, UnknownEntry)
+from fogfleet.gates import Gate, tide_gate
 from fogfleet.giveway import GiveWay, who_gives_way
+from fogfleet.harbour import berths, lying_spans, present
 from fogfleet.knowing import count_ends, counter, ends, first_knowing, knows, sure
 from fogfleet.leastletters import least_letters, parting_world
 from fogfleet.legs import leg_driving, leg_hours, leg_speeds, voyage
@@ -19,10 +24,12 @@ from fogfleet.letters import Letter
 from fogfleet.lights import Light, flashes, sight_zone
 from fogfleet.meeting import meeting_hours, meeting_verdict, meetings
 from fogfleet.numbering import count_drivings, driving_at, number_of
+from fogfleet.orders import breaking_legs, broken, order_holds
 from fogfleet.questions import settling, verdict
 from fogfleet.reach import first_driving, next_places, reach_hours
 from fogfleet.reports import Report, corridor_of, unmet
 from fogfleet.runs import alike_runs, earliest_run, held, is_run, latest_run, seen
+from fogfleet.schedules import least_schedule
 from fogfleet.setting import Setting
 from fogfleet.shared import common_counter, commonly
 from fogfleet.ships import Ship
@@ -50,6 +57,33 @@ OWN_VIEW = ("s0", 1, (), (), (0, 0))
 COUPLE = [CHART, SHIP, CORRIDOR, SHIP, [[2, 0], (2, 1, 0), [3, 2, 0], [2]]]
 TWINS = [CHART, SHIP, CORRIDOR, SHIP, CORRIDOR]
 SAILOR = Ship(3, slow=1, fast=2)
+SAILINGS = [(1, 2), (0, 3), (2, 2)]
+GATE = Gate([9, 3, 4, 5, 6])
+ORDERS = [("after", 0, 1, 1), ("with", 1, 2, 3), ("bar", 2, GATE), ("gate", 1, GATE), ("by", 0, 9)]
+JOURNAL = "report 1 at 0 in 1,3 weight 5\nreceive 1 event 0 at 0 yn\nwithdraw 0"
+
+
+def filled_desk():
+    """A desk with entries of each kind, and a deed that was taken back."""
+    desk = replay(CHART, 3, [SHIP, SHIP], POST, JOURNAL)
+    desk.report(0, 0, [3])
+    desk.report(0, 1, [])
+    desk.undo()
+    return desk
+
+
+def asked_of_desk(method, *parts, **more):
+    """Call a method of a new desk with these entries."""
+    return getattr(filled_desk(), method)(*parts, **more)
+
+
+def refused_by_desk(method, *parts):
+    """Call a method of a new desk that has nothing to redo, and no entry but a firm report."""
+    desk = Desk(CHART, 3, [SHIP, SHIP], letters=POST)
+    if method != "undo":
+        desk.report(0, 0, [3], firm=True)
+    more = {"firm": True} if method == "report" else {}
+    return getattr(desk, method)(*parts, **more)
 
 # Each call with what is passed to it, and the kind of its answer.
 CALLS = [
@@ -141,6 +175,34 @@ CALLS = [
     (leg_speeds, [5, 1, 2, 4], list),
     (leg_driving, [[0, 1, 2, 1], [1, 1, 2]], list),
     (voyage, [CHART, SAILOR, [0, 3, 3]], list),
+    (Gate, [[9, 3, 4]], Gate),
+    (tide_gate, [CHART, 1, 4, 9], Gate),
+    (order_holds, [ORDERS[2], [0, 1, 2], [1, 2, 2]], bool),
+    (broken, [ORDERS, [0, 1, 2], [1, 2, 2]], list),
+    (breaking_legs, [SAILINGS, ORDERS, [0, 5, 2]], type(None)),
+    (breaking_legs, [SAILINGS, ORDERS, [0, 2, 2]], tuple),
+    (least_schedule, [SAILINGS, ORDERS], tuple),
+    (least_schedule, [SAILINGS, ORDERS, 2], tuple),
+    (lying_spans, [SAILINGS, [0, 5, 2], [(0, 1), (2, 1)]], list),
+    (present, [[0, 5, 2], [1, 2, 2], [(0, 1), (2, 1)], 4], list),
+    (berths, [[(3, 6), (0, 3), (4, 9)]], tuple),
+    (format_deeds, [[("withdraw", 3), ("receive", 2, 1, 9, (True, False)), ("report", 1, 4, (), False, 1)]], str),
+    (parse_deeds, [JOURNAL], list),
+    (Desk, [CHART, 3, [SHIP, SHIP]], Desk),
+    (replay, [CHART, 3, [SHIP, SHIP], POST, JOURNAL], Desk),
+    (asked_of_desk, ["standing"], list),
+    (asked_of_desk, ["outlook"], list),
+    (asked_of_desk, ["as_setting"], Setting),
+    (asked_of_desk, ["view_at", 5], tuple),
+    (asked_of_desk, ["cost", 0, 0, [3]], int),
+    (asked_of_desk, ["grounds", 0, 0, [3]], list),
+    (asked_of_desk, ["deeds"], list),
+    (asked_of_desk, ["journal"], str),
+    (asked_of_desk, ["report", 0, 0, [3, 1]], int),
+    (asked_of_desk, ["receive", 0, 2, 5, [True, False]], int),
+    (asked_of_desk, ["withdraw", 1], type(None)),
+    (asked_of_desk, ["undo"], type(None)),
+    (asked_of_desk, ["redo"], type(None)),
 ]
 
 # Each call that is refused, with its error.
@@ -170,4 +232,17 @@ REFUSALS = [
     (NotInPlay, GiveWay(*COUPLE), [[3, 3], [0]]),
     (NotInPlay, GiveWay(*TWINS), [[0, 0], [0, 1, 2, 1]]),
     (NoWay, voyage, [CHART, Ship(6, slow=1), [0, 0]]),
+    (InvalidOrder, breaking_legs, [SAILINGS, ORDERS + [("by", 3, 0)], [0, 0, 0]]),
+    (InvalidOrder, least_schedule, [SAILINGS, ORDERS + [("after", 1, 1, 0)]]),
+    (InvalidStay, lying_spans, [SAILINGS, [0, 0, 0], [(0, 1)]]),
+    (BadText, parse_deeds, ["withdraw 3\n"]),
+    (InvalidSetting, Desk, [CHART, 25, [SHIP]]),
+    (InvalidSetting, replay, [CHART, 3, [], POST, "no deed"]),
+    (BadText, replay, [CHART, 3, [SHIP, SHIP], POST, "withdraw 0"]),
+    (InvalidReport, refused_by_desk, ["report", 0, 0, [4]]),
+    (Contradiction, refused_by_desk, ["report", 0, 0, [1, 0]]),
+    (InvalidReceipt, refused_by_desk, ["receive", 0, 2, 5, [True]]),
+    (UnknownEntry, refused_by_desk, ["withdraw", 1]),
+    (NothingToUndo, refused_by_desk, ["undo"]),
+    (NothingToRedo, refused_by_desk, ["redo"]),
 ]

@@ -148,6 +148,31 @@ INTERFACE = {
         "leg_driving": "(way, speeds)",
         "voyage": "(chart, ship, stops)",
     },
+    "gates": {
+        "Gate": "(hours)",
+        "tide_gate": "(chart, place, draught, last)",
+    },
+    "orders": {
+        "order_holds": "(order, schedule, legs)",
+        "broken": "(orders, schedule, legs)",
+        "breaking_legs": "(sailings, orders, schedule)",
+    },
+    "schedules": {
+        "least_schedule": "(sailings, orders, last=48)",
+    },
+    "harbour": {
+        "lying_spans": "(sailings, schedule, stays)",
+        "present": "(schedule, legs, stays, hour)",
+        "berths": "(spans)",
+    },
+    "deeds": {
+        "format_deeds": "(deeds)",
+        "parse_deeds": "(text)",
+    },
+    "desk": {
+        "Desk": "(chart, horizon, ships, *, letters=())",
+        "replay": "(chart, horizon, ships, letters, text)",
+    },
 }
 METHODS = {
     ("chart", "Chart"): {
@@ -167,6 +192,36 @@ METHODS = {
     },
     ("giveway", "GiveWay"): {
         "__call__": "(self, first_places, second_places)",
+    },
+    ("gates", "Gate"): {
+        "first_from": "(self, hour)",
+        "both": "(self, other)",
+        "either": "(self, other)",
+        "shrunk": "(self, low, high)",
+        "__iter__": "(self)",
+    },
+    ("desk", "Desk"): {
+        "report": "(self, ship, hour, zone, *, weight=1, inside=True, firm=False)",
+        "receive": "(self, letter, event, hour, flags)",
+        "withdraw": "(self, number)",
+        "undo": "(self)",
+        "redo": "(self)",
+        "standing": "(self)",
+        "outlook": "(self)",
+        "as_setting": "(self)",
+        "view_at": "(self, hour)",
+        "corridor": "(self, ship, *, at)",
+        "places": "(self, ship, *, at)",
+        "judge": "(self, ship, hour, zone, *, at)",
+        "encounter": "(self, first, second, *, at)",
+        "settle": "(self, ship, hour, zone, *, at, after=0)",
+        "ask": "(self, line, *, at)",
+        "cost": "(self, ship, hour, zone)",
+        "grounds": "(self, ship, hour, zone)",
+        "trouble": "(self, ship)",
+        "deeds": "(self)",
+        "journal": "(self)",
+        "__iter__": "(self)",
     },
 }
 

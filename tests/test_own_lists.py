@@ -8,9 +8,11 @@ from fogfleet import errors
 from fogfleet.chains import earliest_chain, latest_chain
 from fogfleet.chart import Chart
 from fogfleet.common import common_run
+from fogfleet.desk import Desk
 from fogfleet.disbelief import strength
 from fogfleet.drivings import fits, fuel_along
 from fogfleet.errors import FleetError
+from fogfleet.gates import Gate
 from fogfleet.giveway import GiveWay
 from fogfleet.knowing import counter, ends, sure
 from fogfleet.leastletters import parting_world
@@ -30,7 +32,7 @@ from tests.calls import CALLS, CHART, CORRIDOR, DRIVING, LIGHT, OTHER, POST, REF
 from tests.helpers import all_places, full_chart, line_chart, lists_in, spoil
 from tests.test_interface import INTERFACE
 
-OBJECTS = (Chart, Ship, Light, Report, Letter, Setting, GiveWay)
+OBJECTS = (Chart, Ship, Light, Report, Letter, Setting, GiveWay, Gate, Desk)
 
 
 def copied(arguments):

@@ -12,20 +12,27 @@ from fogfleet.charttext import format_chart, parse_chart
 from fogfleet.claims import format_claim, parse_claim
 from fogfleet.drivings import fits, fuel_along
 from fogfleet.common import common_run, commonly_by
+from fogfleet.deeds import format_deeds, parse_deeds
+from fogfleet.desk import Desk, replay
 from fogfleet.disbelief import reason, strength
-from fogfleet.errors import BadClaim, BadText, DoesNotFit, NoSuchNumber
+from fogfleet.errors import (BadClaim, BadText, Contradiction, DoesNotFit, FleetError, InvalidReceipt, InvalidReport,
+                             NoSuchNumber, NoWorld, UnknownEntry)
+from fogfleet.gates import Gate, tide_gate
 from fogfleet.giveway import GiveWay, who_gives_way
 from fogfleet.knowing import count_ends, counter, ends, first_knowing, knows, sure
+from fogfleet.harbour import berths, lying_spans, present
 from fogfleet.leastletters import least_letters, parting_world
 from fogfleet.legs import leg_driving, leg_hours, leg_speeds, voyage
 from fogfleet.letters import Letter
 from fogfleet.lights import Light, flashes, sight_zone
 from fogfleet.meeting import meeting_hours, meeting_verdict, meetings
 from fogfleet.numbering import count_drivings, driving_at, number_of
+from fogfleet.orders import breaking_legs, broken
 from fogfleet.questions import settling, verdict
 from fogfleet.reach import first_driving, next_places, reach_hours
 from fogfleet.reports import Report, corridor_of, unmet
 from fogfleet.runs import alike_runs, earliest_run, held, is_run, latest_run, seen
+from fogfleet.schedules import least_schedule
 from fogfleet.setting import Setting
 from fogfleet.shared import common_counter, commonly
 from fogfleet.ships import Ship, moves, step_lanes
@@ -330,6 +337,101 @@ class SpeedTest(unittest.TestCase):
         self.quick(lambda: leg_driving([k % 12 for k in range(41)], [3] * 50))
         for chart in self.charts():
             self.quick(lambda: voyage(chart, Ship(99, slow=1, fast=3), [0, 11] * 6))
+
+    def test_gates(self):
+        full, odd = Gate(list(range(201))), Gate(list(range(1, 201, 2)))
+        self.quick(lambda: Gate(list(range(200, -1, -1))))
+        for gate in (full, odd):
+            self.quick(lambda: [HUGE in gate, gate.first_from(HUGE), gate.first_from(200), list(gate)])
+            self.quick(lambda: [gate.both(odd), gate.either(odd), gate.shrunk(0, 60), gate.shrunk(60, 60)])
+        for chart in self.charts():
+            self.quick(lambda: tide_gate(chart, 11, 105, 96))
+
+    def rows_of_orders(self):
+        """Sailings with 30 orders, many of which ask for one hour more and more."""
+        full = Gate(list(range(201)))
+        ring = [("after", k, (k + 1) % 12, 1 if k == 0 else 0) for k in range(12)]
+        back = [("after", (k + 1) % 12, k, 1 if k == 0 else 0) for k in range(12)]
+        yield [(0, 0)] * 12, (back + ring)[:24] + [("bar", k, full) for k in range(6)]
+        yield [(0, 0)] * 12, ring[::-1] + [("gate", 11, full)] * 18
+        yield [(0, 60)] * 12, [("bar", k % 12, full) for k in range(30)]
+        yield [(0, 60)] * 12, [("bar", 0, Gate(list(range(k, 201)))) for k in range(30)]
+        yield [(0, 0)] * 12, [("lands", k, (k + 11) % 12, -1 if k == 3 else 0) for k in range(12)]
+        yield [(0, 0)] * 12, [("with", k % 12, (k + 1) % 12, 0 if k % 12 else -1) for k in range(30)]
+        yield [(0, 0)] * 12, [("gate", k % 12, Gate(list(range(k % 2, 201, 2)))) for k in range(30)]
+
+    def test_schedules(self):
+        for sailings, orders in self.rows_of_orders():
+            schedule = [96] * 12
+            self.quick(lambda: least_schedule(sailings, orders, 96))
+            self.quick(lambda: breaking_legs(sailings, orders, schedule))
+            self.quick(lambda: broken(orders, schedule, [60] * 12))
+
+    def test_harbour(self):
+        for spans in ([(0, 200)] * 30, [(k, 200 - k) for k in range(30)], [(k * 6, k * 6 + 6) for k in range(30)]):
+            self.quick(lambda: berths(spans))
+        stays = [(k % 12, (k + 1) % 12) for k in range(30)]
+        self.quick(lambda: lying_spans([(0, 60)] * 12, [96] * 12, stays))
+        self.quick(lambda: present([96] * 12, [0] * 12, stays, 96))
+
+    def test_deeds(self):
+        deeds = [("report", 3, 999, tuple(range(12)), False, 99), ("receive", 5, 6, 999, (True,) * 4)] * 50
+        self.quick(lambda: self.assertEqual(parse_deeds(format_deeds(deeds)), deeds))
+        for wrong in ("withdraw " + "9" * 10 ** 6, " " * 10 ** 6, "\n" * 10 ** 5, "x" * 10 ** 6,
+                      "receive 0 event 0 at 0 " + "y" * 10 ** 6, "report 0 at 0 in " + "1," * 10 ** 5 + " weight 1"):
+            self.quick(lambda: self.assertRaises(BadText, parse_deeds, wrong))
+
+    def full_desks(self):
+        """Desks with 100 deeds and 40 standing reports, each with the world in which they are true."""
+        for setting, world in list(self.settings())[::2]:
+            desk = Desk(setting.chart, 24, setting.ships, letters=setting.letters)
+            said = answers(setting, world[0])
+            for number, event, hour in seen(setting.letters, world[1], "k0", 96):
+                desk.receive(number, event, hour, said[number])
+            for report in setting.reports:
+                desk.report(report.ship, report.hour, report.zone, weight=99, inside=False)
+            for k in range((100 - len(desk.deeds())) // 2):
+                desk.withdraw([entry[0] for entry in desk if entry[1] == "report"][0])
+                desk.report(k % 4, k % 25, [world[0][k % 4][k % 25], (world[0][k % 4][k % 25] + 5) % 12])
+            self.assertGreaterEqual(len(desk.deeds()), 99)
+            yield desk, setting, world
+
+    def test_deeds_at_a_desk(self):
+        for desk, setting, world in self.full_desks():
+            flags = answers(setting, world[0])[0]
+            self.quick(lambda: desk.report(3, 24, list(range(12)), weight=99))
+            self.quick(lambda: desk.withdraw(desk.standing()[0][0]))
+            self.quick(lambda: self.assertRaises(InvalidReport, desk.report, 3, 25, [0]))
+            self.quick(lambda: self.assertRaises(InvalidReceipt, desk.receive, 5, 6, HUGE, flags))
+            self.quick(lambda: self.assertRaises(UnknownEntry, desk.withdraw, HUGE))
+            self.quick(lambda: self.assertRaises(Contradiction, desk.report, 0, 0, [], firm=True))
+            self.quick(lambda: desk.report(0, 0, [world[0][0][0]], firm=True))
+            many = len(desk.deeds())
+            self.quick(lambda: [desk.undo() for _ in range(many)])
+            self.quick(lambda: [desk.redo() for _ in range(many)])
+            self.quick(lambda: [desk.standing(), desk.outlook(), desk.deeds(), list(desk)])
+            text = desk.journal()
+            self.quick(lambda: desk.journal())
+            self.quick(lambda: replay(setting.chart, 24, setting.ships, setting.letters, text))
+            self.quick(lambda: self.assertRaises(
+                FleetError, replay, setting.chart, 24, setting.ships, setting.letters, text + "\n"))
+
+    def test_questions_at_a_desk(self):
+        chain = "s0@20 knows k5@30 knows s0@10 knows s1@40 knows s0@15 knows k6@60 knows "
+        for number, (desk, setting, world) in enumerate(self.full_desks()):
+            claim = ["ship 0 in 1,2,3 at 12", "ships 0,1 together at 12", "ships 0,1 apart",
+                     "letter 5 event 6 from 96"][number % 4]
+            for at in (0, 96):
+                self.quick(lambda: [desk.as_setting(), desk.view_at(at)])
+                for call in (lambda: desk.corridor(3, at=at), lambda: desk.places(3, at=at),
+                             lambda: desk.judge(3, 12, [1, 2], at=at), lambda: desk.encounter(0, 3, at=at),
+                             lambda: desk.settle(3, 12, [1, 2], at=at), lambda: desk.ask(chain + claim, at=at)):
+                    self.quick(call)
+            self.quick(lambda: desk.cost(3, 12, [1, 2]))
+            self.quick(lambda: desk.grounds(3, 12, list(range(11))))
+            desk.report(3, 12, [])
+            self.quick(lambda: desk.trouble(3))
+            self.quick(lambda: self.assertRaises(NoWorld, desk.encounter, 0, 1, at=0))
 
 
 if __name__ == "__main__":
