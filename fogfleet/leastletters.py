@@ -48,7 +48,7 @@ def least_letters(setting, world, agent, hour, fact):
     steps = step_table(chart, ship, setting.horizon)
     corridor = doubtful_corridor(setting, world, agent, hour, fact)
 
-    def suffices(letters):
+    def is_enough(letters):
         """Tell whether no driving that answers these letters alike makes the fact false."""
         narrow = answered_alike(setting, corridor, drivings[number], letters)
         last = rich_rows(chart, ship, narrow, steps)[-1]
@@ -57,7 +57,7 @@ def least_letters(setting, world, agent, hour, fact):
     candidates = unheld(setting, run, agent, hour)
     for many in range(len(candidates) + 1):
         for letters in combinations(candidates, many):
-            if suffices(letters):
+            if is_enough(letters):
                 return list(letters)
     return None
 

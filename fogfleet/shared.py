@@ -97,7 +97,7 @@ class Common:
         self.agents = agents
         self.hour = hour
 
-    def runs(self, latest):
+    def run_links(self, latest):
         """Return the tuples (agent, run) of the links to the latest or the earliest run."""
         alike = latest_alike if latest else earliest_alike
         return runs_to_end(self.setting.letters, self.run, self.agents, self.hour, alike)
@@ -128,14 +128,14 @@ class Common:
             return ([], [])
         if not self.agents:
             return None
-        runs = self.runs(fact[0] != "from")
+        runs = self.run_links(fact[0] != "from")
         last = runs[-1][1] if runs else self.run
         if fact[0] in RUN_FACTS:
             return None if true_of_run(self.setting.letters, last, fact) else (runs, [])
         moves = self.breaking_moves(last, fact)
         return None if moves is None else (runs, moves)
 
-    def worlds(self, runs, moves):
+    def succession(self, runs, moves):
         """Return the worlds of the succession with these links."""
         drivings = self.drivings
         run = self.run
@@ -167,4 +167,4 @@ def common_counter(setting, world, agents, hour, fact):
         return None
     runs, moves = found
     steps = [agent for agent, run in runs] + [agent for agent, number, driving in moves]
-    return (steps, common.worlds(runs, moves))
+    return (steps, common.succession(runs, moves))
