@@ -68,8 +68,8 @@ def hardest_legs(sailings, order):
     lows = [low for low, high in sailings]
     number = sailings_of(order)[-1] if order[0] == "lands" else order[1]
     low, high = sailings[number]
-    lasts = range(low, high + 1) if order[0] == "bar" else [high]
-    return [lows[:number] + [last] + lows[number + 1:] for last in lasts]
+    least = low if order[0] == "bar" else high
+    return [lows[:number] + [last] + lows[number + 1:] for last in range(least, high + 1)]
 
 
 def breaking_legs(sailings, orders, schedule):
