@@ -43,7 +43,7 @@ def rows_around(outcomes, row, links):
     edge = [row]
     while edge:
         beyond = []
-        for now in edge:
+        for now in list(edge):
             for agent, letters in links:
                 for other in members(widened(1 << now, outcomes.trues, letters) & every):
                     if other not in found:
